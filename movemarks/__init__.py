@@ -1,0 +1,1 @@
+"""Movemarks: sets with moves, and rows that count the points that stay."""

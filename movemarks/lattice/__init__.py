@@ -1,0 +1,1 @@
+"""Subgroups and their classes."""

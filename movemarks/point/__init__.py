@@ -1,0 +1,1 @@
+"""Sets with moves."""

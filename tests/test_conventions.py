@@ -1,0 +1,146 @@
+"""[0.1] to [0.12]: what holds of all that has landed."""
+
+import inspect
+import unittest
+
+from helpers import ALONE, Case, PAIRS, SQUARE, THREE
+from movemarks import errors
+from movemarks.base import integers, tables
+from movemarks.lattice import subgroups
+from movemarks.move import groups, moves
+from movemarks.move.groups import Group
+from movemarks.point import sets
+from movemarks.point.sets import MovedSet
+
+FUNCTIONS = {
+    integers: ("is_integer(value)", "is_prime(value)", "is_ratio(value)", "prime_factors(number)", "part_at(prime, number)",
+               "common_divisor(numbers)", "common_multiple(numbers)", "lowest(top, bottom)"),
+    tables: ("is_table(value)", "table_product(one, other)", "determinant(table)", "rank(table)", "kernel(table)",
+             "elementary_divisors(table)"),
+    moves: ("is_move(places, value)", "unit_of(places)", "product_of(one, other)", "undone(move)", "power_of(move, number)",
+            "order_of(move)", "sign_of(move)", "cycles(move)", "still_places(move)", "move_of_cycles(places, rings)",
+            "turned_move(move, by)", "turning_move(one, other)", "is_turning_move(one, other, value)"),
+    groups: ("beside(one, other)", "are_same(one, other)", "same_paper(one, other)", "is_same_paper(one, other, value)"),
+    subgroups: ("subgroups(group)", "classes(group)", "class_of(group, subgroup)", "class_members(group, index)",
+                "class_sizes(group)", "made_by(group, moves)", "is_subgroup(group, value)", "meet_of(group, one, other)",
+                "made_together(group, one, other)", "keeper(group, subgroup)", "is_kept(group, subgroup)",
+                "turned(group, subgroup, move)", "small_group(group, subgroup)", "lies_table(group)",
+                "maximal(group, subgroup)", "cosets(group, subgroup)", "each_flag(group)"),
+    sets: ("match_paper(one, other)", "is_match_paper(one, other, value)"),
+}
+METHODS = {
+    Group: ("__init__(self, places, makers)", "word(self, move)", "of_word(self, word)", "order_counts(self)"),
+    MovedSet: ("__init__(self, group, size, actions)", "led(self, move, point)", "stabilizer(self, point)",
+               "still(self, subgroup)", "parts(self)", "__add__(self, other)", "__mul__(self, other)"),
+}
+CLASS_METHODS = {
+    Group: ("turning(number)", "mirrors(number)", "every(number)", "even(number)"),
+    MovedSet: ("of_cosets(group, subgroup)", "of_kinds(group, kinds)", "places_of(group)"),
+}
+OPERATORS = {Group: ("__contains__", "__eq__", "__len__", "__iter__", "__str__"), MovedSet: ("__eq__", "__len__", "__str__")}
+
+
+def written(name, call):
+    return name + str(inspect.signature(call))
+
+
+class Interface(Case):
+
+    def test_functions(self):
+        for module, told in FUNCTIONS.items():
+            for line in told:
+                name = line.partition("(")[0]
+                call = module.__dict__[name]
+                self.assertEqual(written(name, call), line)
+                self.assertEqual(call.__module__, module.__name__)
+
+    def test_methods(self):
+        for owner, told in METHODS.items():
+            for line in told:
+                name = line.partition("(")[0]
+                self.assertEqual(written(name, owner.__dict__[name]), line)
+        for owner, told in CLASS_METHODS.items():
+            for line in told:
+                name = line.partition("(")[0]
+                self.assertIsInstance(owner.__dict__[name], classmethod)
+                self.assertEqual(written(name, getattr(owner, name)), line)
+        for owner, told in OPERATORS.items():
+            for name in told:
+                self.assertIn(name, owner.__dict__)
+
+    def test_classes_stand_in_their_files(self):
+        self.assertEqual((Group.__module__, MovedSet.__module__), ("movemarks.move.groups", "movemarks.point.sets"))
+        self.assertEqual(errors.MarkError.__module__, "movemarks.errors")
+
+    def test_generators(self):
+        self.assertTrue(inspect.isgeneratorfunction(subgroups.each_flag))
+
+
+class Calls(Case):
+
+    def test_equal_calls(self):
+        for _ in range(2):
+            self.assertEqual(Group(3, THREE.makers).word((2, 1, 0)), THREE.word((2, 1, 0)))
+            self.assertEqual(list(subgroups.each_flag(SQUARE)), list(subgroups.each_flag(SQUARE)))
+            self.assertEqual(groups.same_paper(THREE, Group.every(3)), groups.same_paper(THREE, THREE))
+            self.assertEqual(moves.turning_move((1, 0, 2), (0, 2, 1)), moves.turning_move((1, 0, 2), (0, 2, 1)))
+
+    def test_tuples(self):
+        told = (subgroups.subgroups(SQUARE), subgroups.classes(SQUARE), subgroups.class_sizes(SQUARE),
+                subgroups.lies_table(SQUARE), subgroups.cosets(SQUARE, SQUARE.moves[:1]), SQUARE.moves, SQUARE.makers,
+                subgroups.maximal(SQUARE, SQUARE.moves), subgroups.class_members(SQUARE, 1), next(subgroups.each_flag(SQUARE)),
+                MovedSet.places_of(SQUARE).actions, MovedSet.places_of(SQUARE).parts(), moves.cycles((1, 0, 2)),
+                tables.table_product(((1,),), ((2,),)), tables.kernel(((0, 0),)))
+        for value in told:
+            self.assertIs(value.__class__, tuple)
+            for member in value:
+                self.assertIs(member.__class__, tuple)
+        for row in (MovedSet.places_of(SQUARE).kinds, MovedSet.places_of(SQUARE).marks, SQUARE.word(SQUARE.moves[3]),
+                    tables.elementary_divisors(((1,),)), MovedSet.places_of(SQUARE).still(SQUARE.moves)):
+            self.assertIs(row.__class__, tuple)
+
+    def test_generators_do_not_meet(self):
+        one, other = iter(THREE), iter(THREE)
+        self.assertEqual((next(one), next(one), next(other)), ((0, 1, 2), (0, 2, 1), (0, 1, 2)))
+        flags, more = subgroups.each_flag(THREE), subgroups.each_flag(THREE)
+        self.assertEqual(next(flags), next(more))
+
+    def test_true_is_not_one(self):
+        self.assertFalse(moves.is_move(2, (True, 0)) or integers.is_integer(True) or integers.is_ratio((True, 2)))
+        self.assertFalse(tables.is_table(((True,),)) or (True, False) in Group(2, ((1, 0),)))
+        self.assertFalse(subgroups.is_subgroup(PAIRS, ((0, True, 2, 3),)))
+        self.assertFalse(moves.is_turning_move((1, 0), (1, 0), (False, True)))
+        self.assertFalse(groups.is_same_paper(ALONE, Group(2, ()), ("makers", ((False, True),))))
+        self.assertTrue(subgroups.is_subgroup(PAIRS, ((0, 1, 2, 3),)))
+
+
+class Order(Case):
+
+    def test_subgroups_by_sizes_then_as_tuples(self):
+        told = subgroups.subgroups(SQUARE)
+        self.assertEqual([len(one) for one in told], [1, 2, 2, 2, 2, 2, 4, 4, 4, 8])
+        self.assertEqual(list(told[1:6]), sorted(told[1:6]))
+        self.assertEqual(told[1], ((0, 1, 2, 3), (0, 3, 2, 1)))
+        self.assertEqual(told[2], ((0, 1, 2, 3), (1, 0, 3, 2)))
+
+    def test_classes_by_first_subgroups(self):
+        first = subgroups.classes(SQUARE)
+        self.assertEqual(list(first), sorted(first, key=lambda one: (len(one), one)))
+        self.assertEqual(subgroups.class_of(SQUARE, ((0, 1, 2, 3), (2, 1, 0, 3))), 1)
+
+    def test_rearrangements_of_products(self):
+        corners = MovedSet.places_of(SQUARE)
+        turn, flip = SQUARE.makers
+        both = moves.product_of(turn, flip)
+        self.assertEqual([corners.led(both, point) for point in range(4)],
+                         [corners.led(turn, corners.led(flip, point)) for point in range(4)])
+
+    def test_alike_exactly_if_kinds_are_equal(self):
+        places = MovedSet.places_of(THREE)
+        told = MovedSet.of_kinds(THREE, places.kinds)
+        self.assertEqual(sets.match_paper(places, told)[0], "map")
+        self.assertEqual(sets.match_paper(places, MovedSet.of_kinds(THREE, (0, 0, 0, 3)))[0], "class")
+
+
+if __name__ == "__main__":
+    unittest.main()

@@ -1,0 +1,119 @@
+"""The examples of the document."""
+
+import unittest
+
+from movemarks import errors
+from movemarks.base import integers, tables
+from movemarks.lattice import subgroups
+from movemarks.move import groups, moves
+from movemarks.point import sets
+
+EXAMPLES = r"""
+>>> THREE = Group(3, ((1, 0, 2), (1, 2, 0)))
+>>> SQUARE = Group(4, ((1, 2, 3, 0), (0, 3, 2, 1)))
+>>> PAIRS = Group(4, ((1, 0, 2, 3), (0, 1, 3, 2)))
+>>> FIVE = Group.even(5)
+>>> [prime_factors(360), part_at(2, -24), part_at(5, 6), common_divisor((12, -18)), common_multiple((4, 6)), common_divisor(()), lowest(6, -4)]
+[{2: 3, 3: 2, 5: 1}, 8, 1, 6, 12, 0, (-3, 2)]
+>>> [is_prime(97), is_prime(101), is_ratio((2, 4)), Refused(("roots", 2)).reason, InvalidNumber(None).given]
+[True, False, False, ('roots', 2), None]
+>>> [elementary_divisors(((2, 0), (0, 3))), elementary_divisors(((2, 4), (4, 8))), elementary_divisors(((0, 0),)), determinant(((1, 2), (3, 4)))]
+[(1, 6), (2,), (), -2]
+>>> [rank(((1, 2), (2, 4))), kernel(((1, 2, 3), (4, 5, 6))), kernel(((1, 0), (0, 1)))]
+[1, ((1, -2, 1),), ()]
+>>> determinant(((1, 2),))
+raises InvalidOperation
+>>> [product_of((1, 0, 2), (0, 2, 1)), product_of((0, 2, 1), (1, 0, 2)), undone((1, 2, 0)), power_of((1, 2, 0), -4), power_of((1, 2, 0, 4, 3), 10 ** 30)]
+[(1, 2, 0), (2, 0, 1), (2, 0, 1), (2, 0, 1), (1, 2, 0, 3, 4)]
+>>> ONE = (1, 2, 0, 4, 3)
+>>> [order_of(ONE), cycles(ONE), cycles((0, 2, 1)), sign_of(ONE), sign_of((1, 2, 0)), still_places((0, 2, 1))]
+[6, ((0, 1, 2), (3, 4)), ((0,), (1, 2)), -1, 1, (0,)]
+>>> [move_of_cycles(5, ((4, 3), (1, 2, 0))) == ONE, move_of_cycles(3, ()), move_of_cycles(3, ((1,),)), turned_move((1, 0, 2), (1, 2, 0))]
+[True, (0, 1, 2), (0, 1, 2), (0, 2, 1)]
+>>> [is_turning_move((1, 0, 2), (0, 2, 1), (1, 2, 0)), is_turning_move((1, 0, 2), (0, 2, 1), (0, 1, 2)), turning_move((1, 0, 2), (1, 2, 0))]
+[True, False, None]
+>>> product_of((1, 0), (0, 1, 2))
+raises InvalidOperation
+>>> [THREE.order, THREE.moves[:3], THREE.of_word((0, 1)), THREE.of_word((1, 0)), THREE.of_word(()), THREE.is_commutative, str(THREE)]
+[6, ((0, 1, 2), (0, 2, 1), (1, 0, 2)), (0, 2, 1), (2, 1, 0), (0, 1, 2), False, 'group of 6 moves on 3 places']
+>>> [THREE.order_counts(), FIVE.order_counts()]
+[{1: 1, 2: 3, 3: 2}, {1: 1, 2: 15, 3: 20, 5: 24}]
+>>> [Group.every(3) == THREE, Group.mirrors(4) == SQUARE, len(Group.mirrors(5)), Group.even(4).makers, (1, 0, 2) in THREE]
+[True, True, 10, ((1, 2, 0, 3), (1, 3, 2, 0)), True]
+>>> SIX = beside(Group.turning(3), Group.turning(2))
+>>> [SIX.places, SIX.makers, SIX.order_counts(), SIX.of_word(SIX.word((2, 0, 1, 4, 3))), are_same(SIX, Group.turning(6)), is_same_paper(SIX, Group.turning(6), ("makers", ((2, 3, 4, 5, 0, 1), (3, 4, 5, 0, 1, 2))))]
+[5, ((1, 2, 0, 3, 4), (0, 1, 2, 4, 3)), {1: 1, 2: 1, 3: 2, 6: 2}, (2, 0, 1, 4, 3), True, True]
+>>> [are_same(PAIRS, Group.turning(4)), same_paper(PAIRS, Group.turning(4)), is_same_paper(THREE, THREE, ("makers", ((1, 0, 2), (1, 0, 2))))]
+[False, ('none',), False]
+>>> QUATER = Group(8, ((1, 2, 3, 0, 5, 6, 7, 4), (4, 7, 6, 5, 2, 1, 0, 3)))
+>>> [QUATER.order_counts(), are_same(beside(Group.turning(4), Group.turning(4)), beside(Group.turning(2), QUATER))]
+[{1: 1, 2: 1, 4: 6}, False]
+>>> Group(10, ((1, 2, 3, 4, 5, 6, 7, 8, 9, 0), (1, 0, 2, 3, 4, 5, 6, 7, 8, 9)))
+raises TooMany(120)
+>>> [len(subgroups(group)) for group in (THREE, SQUARE, PAIRS, FIVE)], class_sizes(THREE), classes(THREE)[:2]
+([6, 10, 5, 59], ((1, 1), (2, 3), (3, 1), (6, 1)), (((0, 1, 2),), ((0, 1, 2), (0, 2, 1))))
+>>> class_sizes(FIVE), [len(keeper(SQUARE, first)) for first in classes(SQUARE)], lies_table(THREE)
+(((1, 1), (2, 15), (3, 10), (4, 5), (5, 6), (6, 10), (10, 6), (12, 5), (60, 1)), [8, 4, 4, 8, 8, 8, 8, 8], ((1, 3, 1, 1), (0, 1, 0, 1), (0, 0, 1, 1), (0, 0, 0, 1)))
+>>> FLIP = made_by(THREE, ((0, 2, 1),))
+>>> [FLIP, class_of(THREE, FLIP), turned(THREE, FLIP, (1, 2, 0)), is_kept(THREE, FLIP), small_group(THREE, THREE.moves).makers]
+[((0, 1, 2), (0, 2, 1)), 1, ((0, 1, 2), (2, 1, 0)), False, ((0, 2, 1), (1, 0, 2))]
+>>> cosets(THREE, FLIP), [len(one) for one in maximal(SQUARE, SQUARE.moves)], len(list(each_flag(THREE)))
+((((0, 1, 2), (0, 2, 1)), ((1, 0, 2), (1, 2, 0)), ((2, 0, 1), (2, 1, 0))), [4, 4, 4], 4)
+>>> is_subgroup(THREE, ((0, 2, 1), (0, 1, 2)))
+False
+>>> class_of(THREE, ((0, 2, 1),))
+raises InvalidSubgroup
+>>> PLACES, CORNERS = MovedSet.places_of(THREE), MovedSet.places_of(PAIRS)
+>>> [PLACES.kinds, PLACES.marks, (PLACES * PLACES).kinds, (PLACES * PLACES).marks, (PLACES + PLACES).kinds, str(PLACES + PLACES)]
+[(0, 1, 0, 0), (3, 1, 0, 0), (1, 1, 0, 0), (9, 1, 0, 0), (0, 2, 0, 0), 'set of 6 points in 2 parts']
+>>> [CORNERS.kinds, CORNERS.marks, CORNERS.parts(), CORNERS.stabilizer(0), CORNERS.led((1, 0, 3, 2), 2), CORNERS.still(CORNERS.stabilizer(0))]
+[(0, 1, 1, 0, 0), (4, 2, 2, 0, 0), ((0, 1), (2, 3)), ((0, 1, 2, 3), (0, 1, 3, 2)), 3, (0, 1)]
+>>> TURNS = MovedSet.of_cosets(THREE, ((0, 1, 2), (1, 2, 0), (2, 0, 1)))
+>>> [TURNS.actions, TURNS.kinds, TURNS.marks, MovedSet.of_kinds(THREE, (0, 1, 0, 1)).actions, len(MovedSet.of_kinds(THREE, (1, 0, 0, 0)))]
+[((1, 0), (0, 1)), (0, 0, 1, 0), (2, 0, 2, 0), ((1, 0, 2, 3), (1, 2, 0, 3)), 6]
+>>> TWICE = MovedSet.of_kinds(PAIRS, (0, 2, 0, 0, 0))
+>>> [is_match_paper(CORNERS, TWICE, ("class", 2)), is_match_paper(CORNERS, TWICE, ("class", 3)), is_match_paper(CORNERS, CORNERS, ("map", (1, 0, 2, 3)))]
+[True, False, True]
+>>> MovedSet(THREE, 2, ((1, 0), (1, 0)))
+raises InvalidSet
+"""
+
+
+def names():
+    """All names that the examples use."""
+    found = {}
+    for module in (errors, integers, tables, moves, groups, subgroups, sets):
+        found.update(module.__dict__)
+    return found
+
+
+class Examples(unittest.TestCase):
+
+    def test_examples(self):
+        known = names()
+        lines = EXAMPLES.strip().splitlines()
+        judged = 0
+        for line, told in zip(lines, lines[1:] + [">>>"]):
+            if not line.startswith(">>> "):
+                continue
+            with self.subTest(line=line):
+                if told.startswith(">>>"):
+                    exec(line[4:], known)
+                elif told.startswith("raises "):
+                    self.assert_raises_as(told[7:], line[4:], known)
+                else:
+                    self.assertEqual(repr(eval(line[4:], known)), told)
+                judged += 1
+        self.assertEqual(judged, sum(line.startswith(">>> ") for line in lines))
+
+    def assert_raises_as(self, told, text, known):
+        """Asks for the error that is told, with what it keeps, such as `TooMany(120)`."""
+        name, _, kept = told.partition("(")
+        with self.assertRaises(known[name]) as caught:
+            eval(text, known)
+        if kept:
+            self.assertIn(eval(kept[:-1], known), caught.exception.__dict__.values())
+
+
+if __name__ == "__main__":
+    unittest.main()
