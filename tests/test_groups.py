@@ -118,6 +118,12 @@ class Refused(Case):
         # 374 subgroups, each one a class; 212; 2825.
         for lengths in ((2,) * 5, (3,) * 4, (2,) * 6):
             self.assert_too_many(200, many_turning, *lengths)
+        # 212 subgroups in 56 classes.
+        turns = [ring(9, (start, start + 1, start + 2)) for start in (0, 3, 6)]
+        self.assert_too_many(200, Group, 9, (*turns, ring(9, (1, 2), (4, 5), (7, 8))))
+        # 180 subgroups.
+        turn = ring(12, range(3), range(3, 7), range(7, 12))
+        self.assertEqual(Group(12, (turn, ring(12, (1, 2), (4, 6), (8, 11), (9, 10)))).order, 120)
 
     def test_too_many_classes(self):
         # 67 subgroups, 134 subgroups, each one a class.
@@ -125,6 +131,11 @@ class Refused(Case):
         self.assert_too_many(60, many_turning, 2, 2, 2, 2, 7)
         # 54 subgroups.
         self.assertEqual(many_turning(4, 2, 2, 3).order, 48)
+        # 60 classes with 101 subgroups, and 61 with 89.
+        self.assertEqual(Group(12, ((2, 3, 1, 0, 7, 6, 4, 5, 10, 11, 9, 8), (1, 0, 3, 2, 6, 7, 4, 5, 9, 8, 10, 11),
+                                    (2, 3, 1, 0, 10, 11, 9, 8, 4, 5, 6, 7))).order, 64)
+        self.assert_too_many(60, Group, 12, ((1, 2, 3, 0, 7, 4, 5, 6, 8, 9, 11, 10), (0, 1, 2, 3, 6, 7, 4, 5, 10, 11, 8, 9),
+                                             (4, 5, 6, 7, 1, 2, 3, 0, 10, 11, 9, 8)))
 
     def test_errors_of_later_arguments_wait(self):
         self.assert_number(0, Group, 0, ((2,),) * 9)

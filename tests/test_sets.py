@@ -329,7 +329,8 @@ class Matches(Case):
                 self.assertIs(is_match_paper(one, other, ("map", match)), right)
 
     def test_all_classes(self):
-        for one, other in ((PLACES, EMPTY), (PLACES, PLACES), (PLACES, MovedSet.of_cosets(THREE, TURNS))):
+        for one, other in ((PLACES, EMPTY), (PLACES, PLACES), (PLACES, MovedSet.of_cosets(THREE, TURNS)),
+                           (PLACES, MovedSet.of_kinds(THREE, (0, 0, 0, 3)))):
             for index in range(4):
                 self.assertIs(is_match_paper(one, other, ("class", index)), one.marks[index] != other.marks[index])
 

@@ -191,13 +191,23 @@ class Divisors(Case):
         self.assertEqual(elementary_divisors(((LONG,) * 60,) * 60), (LONG,))
         twos = tuple(tuple(number * 2 for number in row) for row in unit(60))
         self.assertEqual(elementary_divisors(twos), (2,) * 60)
+
+    def test_divisors_that_are_mixed(self):
         chance = Random(3)
-        low = tuple(tuple(1 if row == column else chance.randint(-2, 2) * int(row > column) for column in range(60))
-                    for row in range(60))
-        chain = [1] * 40 + [2] * 10 + [6] * 5 + [30] * 4 + [0]
-        middle = tuple(tuple(chain[row] if row == column else 0 for column in range(60)) for row in range(60))
-        mixed = table_product(table_product(low, middle), tuple(zip(*low)))
-        self.assertEqual(elementary_divisors(mixed), tuple(chain[:-1]))
+        chains = [[1] * 40 + [2] * 10 + [6] * 5 + [30] * 4 + [0], [1] * 40 + [2] * 10 + [6] * 5 + [30] * 5, [3] * 60]
+        for size in range(1, 9):
+            for _ in range(10):
+                chain = [1]
+                while len(chain) < size:
+                    chain.append(chain[-1] * chance.choice((1, 1, 2, 3, 10)))
+                chains.append(chain)
+        for chain in chains:
+            size = len(chain)
+            low = tuple(tuple(1 if row == column else chance.randint(-2, 2) * int(row > column) for column in range(size))
+                        for row in range(size))
+            middle = tuple(tuple(chain[row] if row == column else 0 for column in range(size)) for row in range(size))
+            mixed = table_product(table_product(low, middle), tuple(zip(*low)))
+            self.assertEqual(elementary_divisors(mixed), tuple(number for number in chain if number))
 
     def test_divisors_of_a_table_turned_over(self):
         for table in some_tables():

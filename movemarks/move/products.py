@@ -4,6 +4,8 @@ Here a move is told by its index in the ascending tuple of all moves of its grou
 unit is 0; a subgroup is the ascending tuple of such indices, here called a body.
 """
 
+from movemarks.move.moves import followed
+
 
 def words_of(places, makers, most):
     """The dict from the moves that the makers make to their words; None if there are more than most."""
@@ -15,7 +17,7 @@ def words_of(places, makers, most):
         move = found[at]
         at += 1
         for index, maker in enumerate(makers):
-            longer = tuple([move[place] for place in maker])
+            longer = followed(move, maker)
             if longer not in words:
                 if len(found) == most:
                     return None
@@ -35,7 +37,7 @@ def table_of(moves, makers, words):
     """The table of all products: at the row a and the column b stands a b."""
     index_of = {move: index for index, move in enumerate(moves)}
     index_by = {words[move]: index_of[move] for move in words}
-    steps = [[index_of[tuple([move[place] for place in maker])] for move in moves] for maker in makers]
+    steps = [[index_of[followed(move, maker)] for move in moves] for maker in makers]
     # A word without its last member is the word of a move, too, and stands ahead.
     plan = [(index_by[word], index_by[word[:-1]], steps[word[-1]]) for word in index_by if len(word) > 0]
     return tuple([_table_row(start, plan) for start in range(len(moves))])
