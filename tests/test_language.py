@@ -156,5 +156,142 @@ class Language(unittest.TestCase):
                         self.assertNotEqual(ast.dump(inner.value), ast.dump(node.iter), place)
 
 
+MODIFYING = set("append clear extend insert pop remove reverse setdefault update".split())
+NEVER = {"sort", "add", "discard"}
+CREATED = (ast.List, ast.Dict, ast.ListComp)
+
+
+def created_by(function):
+    """The names that a function assigns nothing but lists and dicts that it creates there itself."""
+    found, others = set(), set(stored_but_assigned(function))
+    for node in ast.walk(function):
+        if isinstance(node, ast.Assign):
+            for target in node.targets:
+                if isinstance(target, ast.Name):
+                    made = isinstance(node.value, CREATED) or (
+                        isinstance(node.value, ast.Call) and isinstance(node.value.func, ast.Name)
+                        and node.value.func.id in ("list", "dict", "sorted"))
+                    (found if made else others).add(target.id)
+    return found - others
+
+
+def stored_but_assigned(function):
+    """The names that a function stores otherwise than alone by an assignment: parameters, targets of loops, pairs."""
+    alone = {id(target) for node in ast.walk(function) if isinstance(node, ast.Assign) for target in node.targets}
+    for node in ast.walk(function):
+        if isinstance(node, ast.arg):
+            yield node.arg
+        elif isinstance(node, ast.Name) and isinstance(node.ctx, ast.Store) and id(node) not in alone:
+            yield node.id
+
+
+def changes_of(function):
+    """The rows of a function that rule L5 does not allow in what an operator runs, each with a word on it."""
+    own, local = created_by(function), set(stored(function))
+    for node in ast.walk(function):
+        if isinstance(node, ast.AugAssign):
+            if not isinstance(node.target, ast.Name):
+                yield node.lineno, "+= and the like at an item or an attribute"
+            elif isinstance(node.op, ast.Add) and not (isinstance(node.value, ast.Constant)
+                                                       and node.value.value.__class__ is int):
+                yield node.lineno, "+= of what is no literal integer"
+            elif not isinstance(node.op, (ast.Add, ast.Sub, ast.FloorDiv)):
+                yield node.lineno, "another sign with ="
+        elif isinstance(node, ast.Subscript) and isinstance(node.ctx, (ast.Store, ast.Del)):
+            if not isinstance(node.value, ast.Name) or node.value.id not in own:
+                yield node.lineno, "an item of what the function did not create"
+        elif isinstance(node, ast.Attribute) and isinstance(node.ctx, (ast.Store, ast.Del)):
+            if function.name != "__init__" or not isinstance(node.value, ast.Name) or node.value.id != "self":
+                yield node.lineno, "an attribute"
+        elif isinstance(node, (ast.Yield, ast.YieldFrom)):
+            yield node.lineno, "a generator"
+        elif isinstance(node, ast.Call) and isinstance(node.func, ast.Attribute):
+            held = node.func.value
+            if node.func.attr in NEVER:
+                yield node.lineno, "sort, add or discard"
+            if node.func.attr in MODIFYING and not (isinstance(held, ast.Name) and held.id in own):
+                yield node.lineno, "a method that modifies what the function did not create"
+        elif isinstance(node, ast.Call) and not isinstance(node.func, ast.Name):
+            yield node.lineno, "a call of what is held"
+        elif isinstance(node, ast.Call) and node.func.id in local and node.func.id != "cls":
+            yield node.lineno, "a call of what is passed"
+
+
+class Operators(unittest.TestCase):
+    """L5: what an operator, a property, `__eq__`, `__len__` or `__str__` runs changes nothing that it did not create."""
+
+    def setUp(self):
+        self.known = {}
+        self.methods = {}
+        self.properties = {}
+        roots = []
+        for path in FILES:
+            tree = ast.parse(path.read_text(encoding="utf-8"))
+            module = module_of(path)
+            for row in tree.body:
+                if isinstance(row, ast.ImportFrom):
+                    self.known.update({(module, name.name): (row.module, name.name) for name in row.names})
+                elif isinstance(row, ast.FunctionDef):
+                    self.known[module, row.name] = (module, row)
+                elif isinstance(row, ast.ClassDef):
+                    roots.extend(self.read_class(module, row))
+        self.reached = self.all_from(roots)
+
+    def read_class(self, module, row):
+        """Keeps the methods of a class; returns those with which the rule begins."""
+        for method in row.body:
+            if isinstance(method, ast.FunctionDef):
+                marks = [mark.id for mark in method.decorator_list if isinstance(mark, ast.Name)]
+                kept = self.properties if "property" in marks else self.methods
+                kept.setdefault(method.name, []).append((module, method))
+                if method.name == "__init__":
+                    self.known[module, row.name] = (module, method)
+                elif "property" in marks or method.name.startswith("__"):
+                    yield module, method
+
+    def called(self, module, function):
+        """All functions and methods of the package that a function can run, told by their names."""
+        for node in ast.walk(function):
+            if isinstance(node, ast.Attribute):
+                yield from self.properties.get(node.attr, [])
+            if isinstance(node, ast.Call) and isinstance(node.func, ast.Attribute):
+                yield from [one for one in self.methods.get(node.func.attr, []) if node.func.attr != "__init__"]
+            if isinstance(node, ast.Name) and isinstance(node.ctx, ast.Load):
+                target = self.known.get((module, node.id))
+                while target is not None and isinstance(target[1], str):
+                    target = self.known.get(target)
+                yield from [target] if target else []
+
+    def all_from(self, roots):
+        waiting, seen = list(roots), {}
+        while waiting:
+            module, function = waiting.pop()
+            if (module, function.lineno) not in seen:
+                seen[module, function.lineno] = (module, function)
+                waiting.extend(self.called(module, function))
+        return list(seen.values())
+
+    def test_nothing_is_changed(self):
+        for module, function in self.reached:
+            self.assertEqual(list(changes_of(function)), [], (module, function.name))
+
+    def test_what_is_reached(self):
+        names = {function.name for _, function in self.reached}
+        self.assertLessEqual({"__add__", "__mul__", "__eq__", "__len__", "__str__", "__contains__", "is_commutative", "kinds",
+                              "__init__", "_kinds_of", "_leads_of", "followed", "is_arrangement", "need_between"}, names)
+
+    def test_what_is_found(self):
+        wrong = ("kinds = [0]\n kinds[0] += 1", "total = 0\n total += xs", "xs[0] = 1", "xs.append(1)", "ys = [1]\n ys.sort()",
+                 "ys = {a: 1 for a in xs}\n ys[1] = 2", "ys = [0]\n ys = xs\n ys[0] = 1", "xs.rows = 1", "xs()", "xs[0]()",
+                 "for ys in xs:\n  ys.append(1)", "ys = set()\n ys.add(1)", "ys = xs.rows\n ys.update(xs)", "del xs[0]",
+                 "total = 1\n total *= 2", "total = 0\n total += True", "yield 1", "self = xs\n self.rows = 1")
+        right = ("kinds = [0]\n kinds[0] = kinds[0] + 1", "total = 0\n total += 1", "total = 9\n total //= xs", "ys = {}\n ys[1] = 2",
+                 "ys = sorted(xs)\n ys.append(1)", "ys = [a for a in xs]\n ys[0] = 1", "ys = list(xs)\n ys.pop()", "len(xs)")
+        for rows in wrong:
+            self.assertNotEqual(list(changes_of(ast.parse(f"def told(xs):\n {rows}").body[0])), [], rows)
+        for rows in right:
+            self.assertEqual(list(changes_of(ast.parse(f"def told(xs):\n {rows}").body[0])), [], rows)
+
+
 if __name__ == "__main__":
     unittest.main()

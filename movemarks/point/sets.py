@@ -59,7 +59,8 @@ def _stabilizer_body(leads, point):
 def _kinds_of(lattice, parts, bodies):
     kinds = [0 for _ in lattice.families]
     for part in parts:
-        kinds[lattice.family_at[lattice.body_at[bodies[part[0]]]]] += 1
+        index = lattice.family_at[lattice.body_at[bodies[part[0]]]]
+        kinds[index] = kinds[index] + 1
     return tuple(kinds)
 
 
