@@ -6,7 +6,9 @@ import unittest
 from helpers import ALONE, Case, PAIRS, SQUARE, THREE
 from movemarks import errors
 from movemarks.base import integers, tables
-from movemarks.lattice import subgroups
+from movemarks.lattice import steps, subgroups
+from movemarks.made import sums
+from movemarks.mark import marks, rows
 from movemarks.move import groups, moves
 from movemarks.move.groups import Group
 from movemarks.point import sets
@@ -27,6 +29,19 @@ FUNCTIONS = {
                 "turned(group, subgroup, move)", "small_group(group, subgroup)", "lies_table(group)",
                 "maximal(group, subgroup)", "cosets(group, subgroup)", "each_flag(group)"),
     sets: ("match_paper(one, other)", "is_match_paper(one, other, value)"),
+    steps: ("commutators(group, subgroup)", "last_step(group, subgroup)", "levels(group, subgroup)", "is_perfect(group, subgroup)",
+            "does_come_down(group, subgroup)", "perfect_classes(group)", "step_classes(group)", "core_at(group, subgroup, prime)",
+            "is_firm(group, subgroup, prime)", "firm_classes(group, prime)", "core_classes(group, prime)",
+            "down_paper(group, subgroup)", "is_down_paper(group, subgroup, value)", "each_level(group)"),
+    marks: ("mark_table(group)", "keeper_indices(group)", "mark_by(group, index, other, *, road='turned')",
+            "still_cosets(group, subgroup, other)", "coset_row(group, index)", "each_coset_row(group)", "marks_of(group, kinds)",
+            "kinds_of(group, row)", "part_sum(group, row)"),
+    rows: ("row_sum(group, row, index)", "is_mark_row(group, row)", "row_paper(group, row)", "is_row_paper(group, row, value)",
+           "first_fault(group, row)", "rest_of_row(group, row)", "is_rest(group, value)", "each_rest(group)", "share(group)",
+           "least_multiple(group, row)", "built_pair(group, row)"),
+    sums: ("row_plus(group, one, other)", "row_times(group, one, other)", "double_cosets(group, one, other)",
+           "each_double(group, one, other)", "pair_kinds(group, index, number)", "product_kinds(group, one, other)",
+           "power_kinds(group, kinds, many)", "marks_equation(group, kinds)"),
 }
 METHODS = {
     Group: ("__init__(self, places, makers)", "word(self, move)", "of_word(self, word)", "order_counts(self)"),
@@ -73,7 +88,10 @@ class Interface(Case):
         self.assertEqual(errors.MarkError.__module__, "movemarks.errors")
 
     def test_generators(self):
-        self.assertTrue(inspect.isgeneratorfunction(subgroups.each_flag))
+        for module in FUNCTIONS:
+            for line in FUNCTIONS[module]:
+                call = module.__dict__[line.partition("(")[0]]
+                self.assertIs(inspect.isgeneratorfunction(call), line.startswith("each_"), line)
 
 
 class Calls(Case):
@@ -84,22 +102,32 @@ class Calls(Case):
             self.assertEqual(list(subgroups.each_flag(SQUARE)), list(subgroups.each_flag(SQUARE)))
             self.assertEqual(groups.same_paper(THREE, Group.every(3)), groups.same_paper(THREE, THREE))
             self.assertEqual(moves.turning_move((1, 0, 2), (0, 2, 1)), moves.turning_move((1, 0, 2), (0, 2, 1)))
+            self.assertEqual(steps.down_paper(SQUARE, SQUARE.moves), steps.down_paper(Group.mirrors(4), SQUARE.moves))
+            self.assertEqual(marks.mark_table(SQUARE), marks.mark_table(Group.mirrors(4)))
+            self.assertEqual(rows.row_paper(THREE, (1, 0, 0, 1)), rows.row_paper(Group.every(3), (1, 0, 0, 1)))
 
     def test_tuples(self):
         told = (subgroups.subgroups(SQUARE), subgroups.classes(SQUARE), subgroups.class_sizes(SQUARE),
                 subgroups.lies_table(SQUARE), subgroups.cosets(SQUARE, SQUARE.moves[:1]), SQUARE.moves, SQUARE.makers,
                 subgroups.maximal(SQUARE, SQUARE.moves), subgroups.class_members(SQUARE, 1), next(subgroups.each_flag(SQUARE)),
-                MovedSet.places_of(SQUARE).actions, MovedSet.places_of(SQUARE).parts(), moves.cycles((1, 0, 2)),
+                marks.mark_table(SQUARE), steps.levels(SQUARE, SQUARE.moves), sums.double_cosets(SQUARE, SQUARE.moves, SQUARE.moves),
+                marks.still_cosets(SQUARE, SQUARE.moves[:1], SQUARE.moves), MovedSet.places_of(SQUARE).actions, MovedSet.places_of(SQUARE).parts(), moves.cycles((1, 0, 2)),
                 tables.table_product(((1,),), ((2,),)), tables.kernel(((0, 0),)))
         for value in told:
             self.assertIs(value.__class__, tuple)
             for member in value:
                 self.assertIs(member.__class__, tuple)
         for row in (MovedSet.places_of(SQUARE).kinds, MovedSet.places_of(SQUARE).marks, SQUARE.word(SQUARE.moves[3]),
-                    tables.elementary_divisors(((1,),)), MovedSet.places_of(SQUARE).still(SQUARE.moves)):
+                    tables.elementary_divisors(((1,),)), MovedSet.places_of(SQUARE).still(SQUARE.moves),
+                    steps.perfect_classes(SQUARE), steps.core_classes(SQUARE, 2), marks.keeper_indices(SQUARE),
+                    marks.coset_row(SQUARE, 1), next(marks.each_coset_row(SQUARE)), marks.kinds_of(PAIRS, (0,) * 5),
+                    rows.row_sum(PAIRS, (0,) * 5, 1), rows.rest_of_row(PAIRS, (1,) * 5), next(rows.each_rest(PAIRS)),
+                    sums.pair_kinds(PAIRS, 1, 2), sums.marks_equation(PAIRS, (1,) * 5), sums.row_plus(ALONE, (1,), (1,))):
             self.assertIs(row.__class__, tuple)
 
     def test_generators_do_not_meet(self):
+        one, other = rows.each_rest(THREE), rows.each_rest(THREE)
+        self.assertEqual((next(one), next(one), next(other)), ((0, 0, 0, 0), (0, 0, 1, 0), (0, 0, 0, 0)))
         one, other = iter(THREE), iter(THREE)
         self.assertEqual((next(one), next(one), next(other)), ((0, 1, 2), (0, 2, 1), (0, 1, 2)))
         flags, more = subgroups.each_flag(THREE), subgroups.each_flag(THREE)
@@ -111,6 +139,8 @@ class Calls(Case):
         self.assertFalse(subgroups.is_subgroup(PAIRS, ((0, True, 2, 3),)))
         self.assertFalse(moves.is_turning_move((1, 0), (1, 0), (False, True)))
         self.assertFalse(groups.is_same_paper(ALONE, Group(2, ()), ("makers", ((False, True),))))
+        self.assertFalse(rows.is_rest(THREE, (True, 0, 0, 0)) or rows.is_row_paper(THREE, (1, 0, 0, 1), ("sum", 2, True, 2)))
+        self.assertFalse(steps.is_down_paper(ALONE, ALONE.moves, ("chain", (((False,),),))))
         self.assertTrue(subgroups.is_subgroup(PAIRS, ((0, 1, 2, 3),)))
 
 

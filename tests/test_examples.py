@@ -4,7 +4,9 @@ import unittest
 
 from movemarks import errors
 from movemarks.base import integers, tables
-from movemarks.lattice import subgroups
+from movemarks.lattice import steps, subgroups
+from movemarks.made import sums
+from movemarks.mark import marks, rows
 from movemarks.move import groups, moves
 from movemarks.point import sets
 
@@ -63,6 +65,19 @@ raises TooMany(120)
 False
 >>> class_of(THREE, ((0, 2, 1),))
 raises InvalidSubgroup
+>>> WHOLE, EVEN = THREE.moves, FIVE.moves
+>>> [len(commutators(THREE, WHOLE)), [len(level) for level in levels(THREE, WHOLE)], len(last_step(FIVE, EVEN)), is_perfect(FIVE, EVEN), does_come_down(THREE, WHOLE)]
+[3, [6, 3, 1], 60, True, True]
+>>> [perfect_classes(FIVE), step_classes(FIVE), perfect_classes(SQUARE), len(commutators(SQUARE, SQUARE.moves))]
+[(0, 8), (0, 0, 0, 0, 0, 0, 0, 0, 8), (0,), 2]
+>>> [len(core_at(THREE, WHOLE, 2)), len(core_at(THREE, WHOLE, 3)), firm_classes(THREE, 2), firm_classes(THREE, 3), core_classes(THREE, 3), is_firm(THREE, WHOLE, 5)]
+[3, 6, (0, 2), (0, 1, 3), (0, 1, 0, 3), True]
+>>> [is_down_paper(THREE, WHOLE, ("chain", (WHOLE, ((0, 1, 2),)))), down_paper(FIVE, EVEN) == ("perfect", EVEN), [len(one) for one in down_paper(THREE, WHOLE)[1]]]
+[False, True, [6, 3, 1]]
+>>> list(each_level(THREE))
+[(0, 1), (1, 2), (2, 2), (3, 3)]
+>>> is_firm(THREE, WHOLE, 4)
+raises InvalidNumber(4)
 >>> PLACES, CORNERS = MovedSet.places_of(THREE), MovedSet.places_of(PAIRS)
 >>> [PLACES.kinds, PLACES.marks, (PLACES * PLACES).kinds, (PLACES * PLACES).marks, (PLACES + PLACES).kinds, str(PLACES + PLACES)]
 [(0, 1, 0, 0), (3, 1, 0, 0), (1, 1, 0, 0), (9, 1, 0, 0), (0, 2, 0, 0), 'set of 6 points in 2 parts']
@@ -76,13 +91,47 @@ raises InvalidSubgroup
 [True, False, True]
 >>> MovedSet(THREE, 2, ((1, 0), (1, 0)))
 raises InvalidSet
+>>> [mark_table(THREE), keeper_indices(THREE), coset_row(THREE, 1), marks_of(THREE, (0, 0, -1, 2))]
+[((6, 3, 2, 1), (0, 1, 0, 1), (0, 0, 2, 1), (0, 0, 0, 1)), (6, 1, 2, 1), (3, 1, 0, 0), (0, 2, 0, 2)]
+>>> [kinds_of(THREE, (0, 2, 0, 2)), kinds_of(THREE, (1, 1, 1, 0)), kinds_of(PAIRS, (6, 2, 2, 2, 2)), part_sum(THREE, (6, 0, 0, 0)), part_sum(THREE, (1, 0, 0, 0))]
+[(0, 0, -1, 2), None, (1, 0, 0, 0, 2), (1, 1), (1, 6)]
+>>> [[mark_by(THREE, 1, 1, road=road) for road in ROADS], keeper_indices(PAIRS), [mark_by(THREE, 2, other) for other in range(4)]]
+[[1, 1, 1], (4, 2, 2, 2, 1), [0, 0, 2, 1]]
+>>> UNIT, SWAP = ((0, 1, 2),), ((0, 1, 2), (0, 2, 1))
+>>> [still_cosets(THREE, SWAP, SWAP), still_cosets(THREE, UNIT, SWAP), still_cosets(THREE, SWAP, UNIT)]
+[((0, 1, 2),), ((0, 1, 2), (1, 0, 2), (2, 0, 1)), ()]
+>>> mark_by(THREE, 0, 1, road="kinds")
+raises UnknownName("kinds")
+>>> [row_sum(THREE, (1, 1, 1, 0), index) for index in range(4)], is_mark_row(THREE, (1, 1, 1, 0)), first_fault(THREE, (1, 1, 1, 0))
+([(6, 6), (1, 1), (1, 2), (0, 1)], False, 2)
+>>> [row_paper(THREE, (0, 2, 0, 2)), row_paper(THREE, (1, 1, 1, 0)), is_row_paper(THREE, (1, 0, 0, 1), ("sum", 0, 1, 6)), is_row_paper(THREE, (1, 0, 0, 1), ("sum", 2, 1, 2))]
+[('sets', (0, 0, 0, 2), (0, 0, 1, 0)), ('sum', 2, 1, 2), True, True]
+>>> [rest_of_row(THREE, (7, 5, 1, 0)), rest_of_row(THREE, (0, 2, 0, 2)), share(THREE), share(PAIRS), is_rest(THREE, (5, 0, 1, 0)), len(list(each_rest(THREE)))]
+[(4, 0, 1, 0), (0, 0, 0, 0), 12, 32, True, 12]
+>>> [least_multiple(THREE, row) for row in ((0, 0, 0, 1), (1, 0, 0, 0), (0, 0, 0, 0), (2, 0, 0, 0), (1, 1, 1, 0))]
+[2, 6, 1, 3, 2]
+>>> [len(part.kinds) for part in built_pair(THREE, (0, 2, 0, 2))], [part.size for part in built_pair(THREE, (0, 2, 0, 2))]
+([4, 4], [2, 2])
+>>> built_pair(THREE, (1, 0, 0, 0))
+raises InvalidOperation
+>>> FLIP = ((0, 1, 2), (0, 2, 1))
+>>> [double_cosets(THREE, FLIP, FLIP), list(each_double(THREE, FLIP, FLIP)), double_cosets(THREE, FLIP, THREE.moves)]
+[((0, 1, 2), (1, 0, 2)), [((0, 1, 2), 2, 1), ((1, 0, 2), 4, 0)], ((0, 1, 2),)]
+>>> [pair_kinds(THREE, 1, 1), pair_kinds(THREE, 2, 2), pair_kinds(THREE, 1, 2), product_kinds(THREE, (0, 1, 0, -1), (0, 1, 0, 0))]
+[(1, 1, 0, 0), (0, 0, 2, 0), (1, 0, 0, 0), (1, 0, 0, 0)]
+>>> [power_kinds(THREE, (0, 1, 0, 0), 3), power_kinds(THREE, (0, 1, 0, 0), 0), marks_equation(THREE, (0, 1, 0, 0))]
+[(4, 1, 0, 0), (0, 0, 0, 1), (0, 1, 3)]
+>>> row_times(THREE, (3, 1, 0, 0), (2, 0, 2, 0)), row_plus(THREE, (3, 1, 0, 0), (2, 0, 2, 0))
+((6, 0, 0, 0), (5, 1, 2, 0))
+>>> power_kinds(THREE, (0, 1, 0, 0), 13)
+raises InvalidNumber(13)
 """
 
 
 def names():
     """All names that the examples use."""
     found = {}
-    for module in (errors, integers, tables, moves, groups, subgroups, sets):
+    for module in (errors, integers, tables, moves, groups, subgroups, steps, sets, marks, rows, sums):
         found.update(module.__dict__)
     return found
 

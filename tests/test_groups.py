@@ -3,7 +3,8 @@
 import unittest
 from itertools import permutations
 
-from helpers import ALONE, Case, FIVE, NO_INTEGERS, PAIRS, QUATER, SQUARE, THREE, TWENTY, WRONG, back, made, many_turning, times
+from helpers import (ALONE, Case, FIVE, NO_GROUPS, NO_INTEGERS, PAIRS, QUATER, SQUARE, THREE, TWENTY, WRONG, back, made,
+                     many_turning, times)
 from movemarks.errors import InvalidGroup, InvalidMove, InvalidOperation, TooMany
 from movemarks.move import groups
 from movemarks.move.groups import Group, are_same, beside, is_same_paper, same_paper
@@ -11,7 +12,6 @@ from movemarks.move.moves import order_of, sign_of
 
 SOME = (THREE, SQUARE, PAIRS, FIVE, QUATER, TWENTY, ALONE, Group(24, ()), Group.every(4), Group.even(4),
         Group.mirrors(5), Group.turning(12), many_turning(2, 2, 2), many_turning(4, 2), Group.turning(24))
-NO_GROUPS = tuple(value for value in WRONG if not isinstance(value, Group)) + ("group", (THREE,), Group)
 NO_NUMBERS = WRONG + (0,)
 
 

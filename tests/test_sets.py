@@ -3,7 +3,7 @@
 import unittest
 from itertools import permutations, product
 
-from helpers import ALONE, Case, FIVE, PAIRS, QUATER, SQUARE, THREE, TWENTY, WRONG, many_turning, times
+from helpers import ALONE, Case, FIVE, NO_GROUPS, NO_SETS, PAIRS, QUATER, SQUARE, THREE, TWENTY, WRONG, many_turning, times
 from movemarks.errors import (InvalidGroup, InvalidKinds, InvalidMove, InvalidOperation, InvalidSet, InvalidSubgroup)
 from movemarks.lattice.subgroups import class_of, classes, cosets, subgroups, turned
 from movemarks.move.groups import Group
@@ -15,8 +15,6 @@ TURNS = ((0, 1, 2), (1, 2, 0), (2, 0, 1))
 THREE_ANEW = Group(3, ((0, 2, 1), (1, 0, 2), (0, 1, 2)))
 PLACES, CORNERS = MovedSet.places_of(THREE), MovedSet.places_of(PAIRS)
 EMPTY = MovedSet(THREE, 0, ((), ()))
-NO_GROUPS = tuple(value for value in WRONG if not isinstance(value, Group)) + ((THREE,),)
-NO_SETS = tuple(value for value in WRONG if not isinstance(value, MovedSet)) + ((PLACES,), MovedSet)
 NO_KINDS = tuple(value for value in WRONG) + (
     (), (0, 1, 0), (0, 1, 0, 0, 0), [0, 1, 0, 0], (0, 1, 0, True), (0, 1, 0, None), (10 ** 60, 0, 0, 0), "0100", (0, 1, 0, -1),
     (-1, 0, 0, 0), (0, -10 ** 59, 0, 0), {0: 1}, (0, (1,), 0, 0), (False, 1, 0, 0))

@@ -2,7 +2,8 @@
 
 import unittest
 
-from helpers import ALONE, Case, FIVE, PAIRS, QUATER, SQUARE, THREE, TWENTY, WRONG, back, made, many_turning, times
+from helpers import (ALONE, Case, FIVE, NO_GROUPS, NO_SUBGROUPS, PAIRS, QUATER, SQUARE, THREE, TWENTY, WRONG, classes_of,
+                     made, many_turning, subgroups_of, times, turned_by)
 from movemarks.errors import InvalidGroup, InvalidMove, InvalidOperation, InvalidSubgroup
 from movemarks.lattice import subgroups as module
 from movemarks.lattice.subgroups import (class_members, class_of, class_sizes, classes, cosets, each_flag, is_kept,
@@ -13,28 +14,8 @@ from movemarks.move.groups import Group, beside
 SMALL = (THREE, SQUARE, PAIRS, QUATER, TWENTY, ALONE, Group.even(4), Group.turning(12), Group.mirrors(6),
          many_turning(2, 2, 2))
 GREAT = (FIVE, Group.every(4), Group.every(5), many_turning(4, 2, 3), beside(SQUARE, Group.turning(2)))
-NO_GROUPS = tuple(value for value in WRONG if not isinstance(value, Group)) + ((THREE,), "THREE")
 UNIT, FLIP = ((0, 1, 2),), ((0, 1, 2), (0, 2, 1))
 TURNS = ((0, 1, 2), (1, 2, 0), (2, 0, 1))
-# None of these is a subgroup of THREE.
-NO_SUBGROUPS = WRONG + (
-    (), ((0, 2, 1),), ((0, 2, 1), (0, 1, 2)), [(0, 1, 2)], ((0, 1, 2), (0, 1, 2)), ((0, 1, 2), (0, 2, 1), (1, 0, 2)),
-    ((0, 1, 2), (1, 2, 0)), ([0, 1, 2],), (((0, 1, 2),),), ((0, 1),), ((0, 1, 2, 3),), ((0, 1, 2), None), (0, 1, 2),
-    ((0, True, 2),), ((False, 1, 2), (0, 2, 1)), ((0, 1, 2), (0, 2, True)), ((0, 1, 2),) * 200, SQUARE.moves, "()")
-
-
-def turned_by(subgroup, by):
-    return tuple(sorted(times(times(by, move), back(by)) for move in subgroup))
-
-
-def plain_subgroups(group):
-    """All subgroups, told anew: each is made by one with fewer moves and by one move."""
-    found = {group.moves[:1]}
-    fresh = found
-    while fresh:
-        fresh = {made(group.places, one + (move,)) for one in fresh for move in group.moves} - found
-        found = found | fresh
-    return tuple(sorted(found, key=lambda one: (len(one), one)))
 
 
 class Told(Case):
@@ -44,7 +25,7 @@ class Told(Case):
 
     def test_subgroups(self):
         for group in SMALL:
-            self.assertEqual(subgroups(group), plain_subgroups(group))
+            self.assertEqual(subgroups(group), subgroups_of(group))
         self.assertEqual([len(subgroups(group)) for group in (THREE, SQUARE, PAIRS, FIVE)], [6, 10, 5, 59])
 
     def test_known_numbers(self):
@@ -68,8 +49,7 @@ class Told(Case):
 
     def test_classes(self):
         for group in SMALL:
-            told = sorted({tuple(sorted({turned_by(one, by) for by in group.moves})) for one in subgroups(group)},
-                          key=lambda members: (len(members[0]), members[0]))
+            told = classes_of(group)
             self.assertEqual(classes(group), tuple(members[0] for members in told))
             self.assertEqual(class_sizes(group), tuple((len(members[0]), len(members)) for members in told))
             for index, members in enumerate(told):

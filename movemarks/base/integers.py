@@ -113,12 +113,17 @@ def common_multiple(numbers):
     return multiple
 
 
+def reduced(top, bottom):
+    """The ratio of two integers with any number of digits, the second one other than 0."""
+    shared = gcd(top, bottom)
+    if bottom < 0:
+        shared = -shared
+    return top // shared, bottom // shared
+
+
 def lowest(top, bottom):
     """The ratio of two integers."""
     if not is_integer(top):
         raise InvalidNumber(top)
     _need_divided(bottom)
-    shared = gcd(top, bottom)
-    if bottom < 0:
-        shared = -shared
-    return top // shared, bottom // shared
+    return reduced(top, bottom)

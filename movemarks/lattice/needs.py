@@ -1,7 +1,8 @@
 """What the parameters of a group must be: its subgroups, its moves, the indices of its classes."""
 
 from movemarks.base.integers import is_integer, need_between
-from movemarks.errors import InvalidKinds, InvalidMove, InvalidSubgroup
+from movemarks.errors import InvalidKinds, InvalidMove, InvalidOperation, InvalidRow, InvalidSubgroup
+from movemarks.move.groups import need_group
 
 
 def place_of(group, value):
@@ -32,9 +33,39 @@ def need_index(group, index):
     need_between(index, 0, len(group.lattice.families) - 1)
 
 
+def _is_row(group, value):
+    """Whether the value is a tuple of integers, one for each class of a group."""
+    if not isinstance(value, tuple) or len(value) != len(group.lattice.families):
+        return False
+    return all([is_integer(member) for member in value])
+
+
+def need_row(group, row):
+    """Raises the error for a value that is no tuple of integers, one for each class of a group."""
+    if not _is_row(group, row):
+        raise InvalidRow("not a tuple of integers, one for each class")
+
+
 def need_kinds(group, kinds):
     """Raises the error for a value that is no tuple of integers, one for each class of a group."""
-    if not isinstance(kinds, tuple) or len(kinds) != len(group.lattice.families):
-        raise InvalidKinds("not a tuple with a member for each class")
-    if not all([is_integer(number) for number in kinds]):
-        raise InvalidKinds("a member is no integer of at most sixty digits")
+    if not _is_row(group, kinds):
+        raise InvalidKinds("not a tuple of integers, one for each class")
+
+
+def need_set_kinds(group, kinds):
+    """Raises the error for a value that is no kinds of a set: no member is below 0."""
+    need_kinds(group, kinds)
+    if any([many < 0 for many in kinds]):
+        raise InvalidKinds("a member is below 0")
+
+
+def need_within(small, group):
+    """Raises the error for a group that does not lie in the other one."""
+    if small.places != group.places or not all([move in group for move in small.moves]):
+        raise InvalidOperation("the one group does not lie in the other one")
+
+
+def need_small(group, small):
+    """Raises the errors for a value that is no group, or none that lies in the group."""
+    need_group(small)
+    need_within(small, group)

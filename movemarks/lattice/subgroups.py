@@ -9,25 +9,26 @@ MAX_MADE_BY = 24
 MAX_MAKERS = 6
 
 
-def _told(group, body):
+def told(group, body):
     """The moves of a body, an ascending tuple of indices of moves."""
     return tuple([group.moves[index] for index in body])
 
 
-def _told_at(group, place):
-    return _told(group, group.lattice.bodies[place])
+def told_at(group, place):
+    """The moves of the subgroup at a place."""
+    return told(group, group.lattice.bodies[place])
 
 
 def subgroups(group):
     """The tuple of all subgroups, in their order."""
     need_group(group)
-    return tuple([_told(group, body) for body in group.lattice.bodies])
+    return tuple([told(group, body) for body in group.lattice.bodies])
 
 
 def classes(group):
     """The tuple of the first subgroups of all classes, in their order."""
     need_group(group)
-    return tuple([_told_at(group, family[0]) for family in group.lattice.families])
+    return tuple([told_at(group, family[0]) for family in group.lattice.families])
 
 
 def class_of(group, subgroup):
@@ -41,7 +42,7 @@ def class_members(group, index):
     """The tuple of all subgroups of a class, in their order."""
     need_group(group)
     need_index(group, index)
-    return tuple([_told_at(group, place) for place in group.lattice.families[index]])
+    return tuple([told_at(group, place) for place in group.lattice.families[index]])
 
 
 def class_sizes(group):
@@ -51,21 +52,13 @@ def class_sizes(group):
     return tuple([(len(bodies[family[0]]), len(family)) for family in group.lattice.families])
 
 
-def _least_place(lattice, mask):
-    """The place of the least subgroup that has all moves of a mask."""
-    for place, larger in enumerate(lattice.masks):
-        if mask & larger == mask:
-            return place
-    return None
-
-
 def made_by(group, moves):
     """The subgroup that some moves make."""
     need_group(group)
     if not isinstance(moves, tuple) or len(moves) > MAX_MADE_BY:
         raise InvalidOperation("not a tuple of at most 24 members")
     mask = mask_of([need_move(group, move) for move in moves])
-    return _told_at(group, _least_place(group.lattice, mask))
+    return told_at(group, group.lattice.least_place(mask))
 
 
 def is_subgroup(group, value):
@@ -88,16 +81,21 @@ def made_together(group, one, other):
     place = need_subgroup(group, one)
     other_place = need_subgroup(group, other)
     mask = group.lattice.masks[place] | group.lattice.masks[other_place]
-    return _told_at(group, _least_place(group.lattice, mask))
+    return told_at(group, group.lattice.least_place(mask))
+
+
+def keeper_body(lattice, place):
+    """The ascending list of the indices of the moves that turn the subgroup at a place into itself."""
+    body = lattice.bodies[place]
+    if len(lattice.families[lattice.family_at[place]]) == 1:
+        return list(range(len(lattice.table)))
+    return [by for by in range(len(lattice.table)) if turned_body(lattice.table, lattice.back, body, by) == body]
 
 
 def keeper(group, subgroup):
     """The subgroup of the moves that turn the subgroup into itself."""
     need_group(group)
-    lattice = group.lattice
-    body = lattice.bodies[need_subgroup(group, subgroup)]
-    keeping = [by for by in range(group.order) if turned_body(lattice.table, lattice.back, body, by) == body]
-    return _told(group, keeping)
+    return told(group, keeper_body(group.lattice, need_subgroup(group, subgroup)))
 
 
 def is_kept(group, subgroup):
@@ -113,7 +111,7 @@ def turned(group, subgroup, move):
     lattice = group.lattice
     body = lattice.bodies[need_subgroup(group, subgroup)]
     by = need_move(group, move)
-    return _told(group, turned_body(lattice.table, lattice.back, body, by))
+    return told(group, turned_body(lattice.table, lattice.back, body, by))
 
 
 def small_group(group, subgroup):
@@ -125,20 +123,21 @@ def small_group(group, subgroup):
     for move in body:
         if (made >> move) & 1 == 0:
             makers.append(group.moves[move])
-            made = group.lattice.masks[_least_place(group.lattice, made | mask_of([move]))]
+            made = group.lattice.masks[group.lattice.least_place(made | mask_of([move]))]
     return Group(group.places, tuple(makers))
+
+
+def many_above(lattice, place, family):
+    """How many subgroups of a family, told by their places, have the one at a place within."""
+    mask = lattice.masks[place]
+    return len([high for high in family if mask & lattice.masks[high] == mask])
 
 
 def lies_table(group):
     """The table that has, for two classes, how many subgroups of the second have the first of the first within."""
     need_group(group)
-    lattice = group.lattice
-    rows = []
-    for family in lattice.families:
-        mask = lattice.masks[family[0]]
-        rows.append(tuple([len([place for place in others if mask & lattice.masks[place] == mask])
-                           for others in lattice.families]))
-    return tuple(rows)
+    families = group.lattice.families
+    return tuple([tuple([many_above(group.lattice, family[0], others) for others in families]) for family in families])
 
 
 def _maximal_places(lattice, top):
@@ -156,7 +155,7 @@ def maximal(group, subgroup):
     """The tuple of the subgroups that are maximal in a subgroup, in their order."""
     need_group(group)
     place = need_subgroup(group, subgroup)
-    return tuple([_told_at(group, low) for low in _maximal_places(group.lattice, place)])
+    return tuple([told_at(group, low) for low in _maximal_places(group.lattice, place)])
 
 
 def coset_bodies(table, body):
@@ -172,7 +171,7 @@ def cosets(group, subgroup):
     """The ascending tuple of all cosets of the subgroup, each an ascending tuple."""
     need_group(group)
     body = group.lattice.bodies[need_subgroup(group, subgroup)]
-    return tuple([_told(group, coset) for coset in coset_bodies(group.lattice.table, body)])
+    return tuple([told(group, coset) for coset in coset_bodies(group.lattice.table, body)])
 
 
 def _places_above(lattice):
@@ -192,7 +191,7 @@ def each_flag(group):
     while len(waiting) > 0:
         flag = waiting.pop()
         if len(above[flag[-1]]) == 0:
-            yield tuple([_told_at(group, place) for place in flag])
+            yield tuple([told_at(group, place) for place in flag])
         # What is put behind the others is taken first, so the least place stands last.
         for place in above[flag[-1]]:
             waiting.append(flag + (place,))

@@ -89,7 +89,8 @@ def _family_of(table, back, body, makers):
     return family
 
 
-def _powers_of(table, move):
+def powers_of(table, move):
+    """The list of the powers of a move, from the unit on."""
     powers = [0]
     while table[powers[-1]][move] != 0:
         powers.append(table[powers[-1]][move])
@@ -98,7 +99,7 @@ def _powers_of(table, move):
 
 def orders_of(table):
     """The orders of all moves."""
-    return tuple([len(_powers_of(table, move)) for move in range(len(table))])
+    return tuple([len(powers_of(table, move)) for move in range(len(table))])
 
 
 def _is_prime_power(number):
@@ -114,7 +115,7 @@ def _single_makers(table):
     """One move for each subgroup that one move of an order above 1, a power of a prime, makes."""
     bodies = {}
     for move in range(1, len(table)):
-        powers = _powers_of(table, move)
+        powers = powers_of(table, move)
         if _is_prime_power(len(powers)):
             bodies.setdefault(tuple(sorted(powers)), move)
     return [bodies[body] for body in bodies]
@@ -148,6 +149,33 @@ def families_of(table, makers, most):
     return families
 
 
+def coset_firsts(table, body):
+    """For each move the least move of the coset of the body in which it lies."""
+    firsts = [None for _ in table]
+    for move in range(len(table)):
+        if firsts[move] is None:
+            for member in body:
+                firsts[table[move][member]] = move
+    return firsts
+
+
+def double_firsts(table, body, other):
+    """For each double coset of two bodies, ascending, the pair of its least move and of how many it has."""
+    firsts = coset_firsts(table, other)
+    seen = {}
+    doubles = []
+    for move, first in enumerate(firsts):
+        if first not in seen:
+            many = 0
+            for low in body:
+                moved = firsts[table[low][move]]
+                if moved not in seen:
+                    seen[moved] = True
+                    many += 1
+            doubles.append((move, many * len(other)))
+    return doubles
+
+
 def mask_of(body):
     """The integer that has the bits whose places are the moves of the body."""
     mask = 0
@@ -172,9 +200,21 @@ class Lattice:
         self.bodies = tuple(in_order([body for family in families for body in family]))
         self.masks = tuple([mask_of(body) for body in self.bodies])
         self.body_at = {body: at for at, body in enumerate(self.bodies)}
+        self.place_at = {mask: at for at, mask in enumerate(self.masks)}
         members = [tuple(sorted([self.body_at[body] for body in family])) for family in families]
         self.families = tuple(sorted(members))
         self.family_at = {at: index for index, family in enumerate(self.families) for at in family}
+
+    def least_place(self, mask):
+        """The place of the least body that has all moves of a mask."""
+        for place, larger in enumerate(self.masks):
+            if mask & larger == mask:
+                return place
+        return None
+
+    def first_bodies(self):
+        """The list of the first bodies of all classes."""
+        return [self.bodies[family[0]] for family in self.families]
 
 
 def partners_of(table, makers, other, images):

@@ -1,8 +1,8 @@
 """Sets with moves: their parts, stabilizers, kinds and marks, sums, products and matches."""
 
 from movemarks.base.integers import is_between, need_between
-from movemarks.errors import InvalidKinds, InvalidOperation, InvalidSet, TooMany
-from movemarks.lattice.needs import need_kinds, need_move, need_subgroup
+from movemarks.errors import InvalidOperation, InvalidSet, TooMany
+from movemarks.lattice.needs import need_move, need_set_kinds, need_subgroup
 from movemarks.lattice.subgroups import coset_bodies
 from movemarks.move.groups import need_group
 from movemarks.move.moves import followed, is_arrangement
@@ -11,9 +11,15 @@ from movemarks.move.products import mask_of
 MOST_POINTS = 60
 
 
-def _need_points(many):
+def need_points(many):
+    """Raises the error for more points than a set can have."""
     if many > MOST_POINTS:
         raise TooMany(MOST_POINTS)
+
+
+def points_of(lattice, kinds):
+    """The number of the points of a set with these kinds."""
+    return sum([many * (len(lattice.table) // len(body)) for many, body in zip(kinds, lattice.first_bodies())])
 
 
 def _need_actions(group, size, actions):
@@ -106,18 +112,16 @@ class MovedSet:
         need_group(group)
         body = group.lattice.bodies[need_subgroup(group, subgroup)]
         size = group.order // len(body)
-        _need_points(size)
+        need_points(size)
         return cls(group, size, tuple(_coset_actions(group.lattice, body)))
 
     @classmethod
     def of_kinds(cls, group, kinds):
         """A set with these kinds: class after class the cosets of its first subgroup."""
         need_group(group)
-        need_kinds(group, kinds)
-        if any([many < 0 for many in kinds]):
-            raise InvalidKinds("a member is below 0")
-        bodies = [group.lattice.bodies[family[0]] for family in group.lattice.families]
-        _need_points(sum([many * (group.order // len(body)) for many, body in zip(kinds, bodies)]))
+        need_set_kinds(group, kinds)
+        need_points(points_of(group.lattice, kinds))
+        bodies = group.lattice.first_bodies()
         size = 0
         actions = [() for _ in group.makers]
         for many, body in zip(kinds, bodies):
@@ -182,28 +186,28 @@ class MovedSet:
         """The ascending tuple of the parts, each an ascending tuple."""
         return self._parts
 
-    def _lead_by(self, move):
+    def action_by(self, move):
         """The rearrangement of the points by a move of the group."""
         return self._leads[self._group.lattice.index_of[move]]
 
     def __add__(self, other):
         if not isinstance(other, MovedSet):
             return NotImplemented
-        _need_one_group(self, other)
+        need_one_group(self, other)
         size = len(self._bodies)
-        _need_points(size + len(other._bodies))
-        actions = _side_by_side(self._actions, [other._lead_by(maker) for maker in self._group.makers], size)
+        need_points(size + len(other._bodies))
+        actions = _side_by_side(self._actions, [other.action_by(maker) for maker in self._group.makers], size)
         return MovedSet(self._group, size + len(other._bodies), tuple(actions))
 
     def __mul__(self, other):
         if not isinstance(other, MovedSet):
             return NotImplemented
-        _need_one_group(self, other)
+        need_one_group(self, other)
         size = len(other._bodies)
-        _need_points(len(self._bodies) * size)
+        need_points(len(self._bodies) * size)
         actions = []
         for maker, action in zip(self._group.makers, self._actions):
-            lead = other._lead_by(maker)
+            lead = other.action_by(maker)
             actions.append(tuple([one * size + another for one in action for another in lead]))
         return MovedSet(self._group, len(self._bodies) * size, tuple(actions))
 
@@ -222,15 +226,23 @@ def _side_by_side(actions, others, size):
     return [tuple(list(action) + [size + point for point in other]) for action, other in zip(actions, others)]
 
 
-def _need_one_group(one, other):
+def need_set(moved):
+    """Raises the error for a value that is no set with moves."""
+    if not isinstance(moved, MovedSet):
+        raise InvalidSet("not a set with moves")
+
+
+def need_one_group(one, other):
+    """Raises the error for two sets whose groups are not equal."""
     if one.group != other.group:
         raise InvalidOperation("the groups of both sets are not equal")
 
 
-def _need_sets(one, other):
-    if not isinstance(one, MovedSet) or not isinstance(other, MovedSet):
-        raise InvalidSet("not a set with moves")
-    _need_one_group(one, other)
+def need_sets(one, other):
+    """Raises the errors for two values that are no sets with moves of equal groups."""
+    need_set(one)
+    need_set(other)
+    need_one_group(one, other)
 
 
 def _first_apart(one, other):
@@ -263,7 +275,7 @@ def _match_of(one, other):
 
 def match_paper(one, other):
     """A paper that shows that two sets are alike, or a class at which their marks differ."""
-    _need_sets(one, other)
+    need_sets(one, other)
     index = _first_apart(one, other)
     if index is not None:
         return ("class", index)
@@ -282,7 +294,7 @@ def _is_match(one, other, value):
 
 def is_match_paper(one, other, value):
     """Whether the value is a right paper of `match_paper`."""
-    _need_sets(one, other)
+    need_sets(one, other)
     if not isinstance(value, tuple) or len(value) != 2:
         return False
     if value[0] == "map":

@@ -1,0 +1,1 @@
+"""Sets that are made of sets, told by their mark rows."""

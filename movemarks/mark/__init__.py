@@ -1,0 +1,1 @@
+"""The mark table, and which rows are mark rows."""
