@@ -113,7 +113,7 @@ def first_of(call):
     """What calls a generator, and only then asks for its first element."""
     def told(*passed, **named):
         found = call(*passed, **named)
-        return next(found)
+        return next(found, None)
     return told
 
 

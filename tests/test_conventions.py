@@ -7,13 +7,15 @@ from helpers import ALONE, Case, PAIRS, SQUARE, THREE
 from movemarks import errors
 from movemarks.base import integers, tables
 from movemarks.lattice import steps, subgroups
-from movemarks.made import sums
+from movemarks.made import changes, powers, quotients, sums
 from movemarks.mark import marks, rows
 from movemarks.move import groups, moves
 from movemarks.move.groups import Group
 from movemarks.point import sets
 from movemarks.point.sets import MovedSet
+from movemarks.square import squares
 
+ALONE_OF_FOUR = Group(4, ())
 FUNCTIONS = {
     integers: ("is_integer(value)", "is_prime(value)", "is_ratio(value)", "prime_factors(number)", "part_at(prime, number)",
                "common_divisor(numbers)", "common_multiple(numbers)", "lowest(top, bottom)"),
@@ -42,6 +44,20 @@ FUNCTIONS = {
     sums: ("row_plus(group, one, other)", "row_times(group, one, other)", "double_cosets(group, one, other)",
            "each_double(group, one, other)", "pair_kinds(group, index, number)", "product_kinds(group, one, other)",
            "power_kinds(group, kinds, many)", "marks_equation(group, kinds)"),
+    changes: ("class_indices(group, small)", "row_down(group, small, row)", "row_up(group, small, row)",
+              "kinds_down(group, small, kinds)", "kinds_up(group, small, kinds)", "set_down(moved, small)", "set_up(moved, group)",
+              "map_count(group, kinds, row)"),
+    powers: ("part_sizes(group, kinds, index)", "row_up_power(group, small, row)", "maps_row(group, row, kinds)",
+             "lots_row(group, kinds, many)", "lots_all_row(group, kinds)", "up_power_set(moved, group)", "maps_set(one, other)",
+             "lots_set(moved, many)", "each_lot(moved, many)"),
+    quotients: ("quotient_group(group, subgroup)", "image_of(group, subgroup, move)", "images_of(group, subgroup, other)",
+                "behind(group, subgroup, small)", "quotient_classes(group, subgroup)", "image_classes(group, subgroup)",
+                "row_left(group, subgroup, row)", "kinds_left(group, subgroup, kinds)", "row_lifted(group, subgroup, row)",
+                "kinds_lifted(group, subgroup, kinds)", "set_left(moved, subgroup)", "set_lifted(group, subgroup, moved)"),
+    squares: ("is_own_square(group, value)", "square_rows(group)", "square_kinds(group)", "each_square(group)",
+              "square_paper(group, row)", "is_square_paper(group, row, value)", "is_row_at(group, prime, value)",
+              "square_rows_at(group, prime)", "part_kinds(group, index)", "part_bottom(group, index)",
+              "kinds_of_ratios(group, ratios)"),
 }
 METHODS = {
     Group: ("__init__(self, places, makers)", "word(self, move)", "of_word(self, word)", "order_counts(self)"),
@@ -105,6 +121,8 @@ class Calls(Case):
             self.assertEqual(steps.down_paper(SQUARE, SQUARE.moves), steps.down_paper(Group.mirrors(4), SQUARE.moves))
             self.assertEqual(marks.mark_table(SQUARE), marks.mark_table(Group.mirrors(4)))
             self.assertEqual(rows.row_paper(THREE, (1, 0, 0, 1)), rows.row_paper(Group.every(3), (1, 0, 0, 1)))
+            self.assertEqual(squares.square_paper(THREE, (1, 0, 0, 1)), squares.square_paper(Group.every(3), (1, 0, 0, 1)))
+            self.assertEqual(list(powers.each_lot(MovedSet.places_of(SQUARE), 2)), list(powers.each_lot(MovedSet.places_of(SQUARE), 2)))
 
     def test_tuples(self):
         told = (subgroups.subgroups(SQUARE), subgroups.classes(SQUARE), subgroups.class_sizes(SQUARE),
@@ -122,7 +140,13 @@ class Calls(Case):
                     steps.perfect_classes(SQUARE), steps.core_classes(SQUARE, 2), marks.keeper_indices(SQUARE),
                     marks.coset_row(SQUARE, 1), next(marks.each_coset_row(SQUARE)), marks.kinds_of(PAIRS, (0,) * 5),
                     rows.row_sum(PAIRS, (0,) * 5, 1), rows.rest_of_row(PAIRS, (1,) * 5), next(rows.each_rest(PAIRS)),
-                    sums.pair_kinds(PAIRS, 1, 2), sums.marks_equation(PAIRS, (1,) * 5), sums.row_plus(ALONE, (1,), (1,))):
+                    changes.class_indices(PAIRS, ALONE_OF_FOUR), changes.row_up(PAIRS, PAIRS, (1,) * 5),
+                    changes.kinds_down(PAIRS, ALONE_OF_FOUR, (1,) * 5), powers.lots_row(PAIRS, (1,) * 5, 2),
+                    powers.maps_row(PAIRS, (1,) * 5, (1,) * 5), powers.row_up_power(PAIRS, PAIRS, (1,) * 5),
+                    quotients.image_of(PAIRS, PAIRS.moves, PAIRS.moves[1]), quotients.row_left(PAIRS, PAIRS.moves, (1,) * 5),
+                    quotients.behind(PAIRS, PAIRS.moves, ((0,),)), quotients.kinds_lifted(PAIRS, PAIRS.moves, (1,)),
+                    squares.part_kinds(PAIRS, 2), squares.square_rows(PAIRS), squares.square_rows_at(PAIRS, 2),
+                    squares.kinds_of_ratios(PAIRS, ((1, 2),) * 5), sums.pair_kinds(PAIRS, 1, 2), sums.marks_equation(PAIRS, (1,) * 5), sums.row_plus(ALONE, (1,), (1,))):
             self.assertIs(row.__class__, tuple)
 
     def test_generators_do_not_meet(self):
@@ -141,6 +165,8 @@ class Calls(Case):
         self.assertFalse(groups.is_same_paper(ALONE, Group(2, ()), ("makers", ((False, True),))))
         self.assertFalse(rows.is_rest(THREE, (True, 0, 0, 0)) or rows.is_row_paper(THREE, (1, 0, 0, 1), ("sum", 2, True, 2)))
         self.assertFalse(steps.is_down_paper(ALONE, ALONE.moves, ("chain", (((False,),),))))
+        self.assertFalse(squares.is_own_square(ALONE, (True,)) or squares.is_square_paper(ALONE, (1,), ("sum", (False,))))
+        self.assertFalse(squares.is_row_at(ALONE, 2, ((True, 1),)) or squares.is_row_at(ALONE, 2, ((1, True),)))
         self.assertTrue(subgroups.is_subgroup(PAIRS, ((0, 1, 2, 3),)))
 
 

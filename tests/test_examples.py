@@ -5,10 +5,11 @@ import unittest
 from movemarks import errors
 from movemarks.base import integers, tables
 from movemarks.lattice import steps, subgroups
-from movemarks.made import sums
+from movemarks.made import changes, powers, quotients, sums
 from movemarks.mark import marks, rows
 from movemarks.move import groups, moves
 from movemarks.point import sets
+from movemarks.square import squares
 
 EXAMPLES = r"""
 >>> THREE = Group(3, ((1, 0, 2), (1, 2, 0)))
@@ -125,13 +126,65 @@ raises InvalidOperation
 ((6, 0, 0, 0), (5, 1, 2, 0))
 >>> power_kinds(THREE, (0, 1, 0, 0), 13)
 raises InvalidNumber(13)
+>>> FLIPS, CROSS = Group(3, ((0, 2, 1),)), Group(4, ((0, 3, 2, 1), (2, 1, 0, 3)))
+>>> [class_indices(THREE, FLIPS), class_indices(SQUARE, CROSS), row_down(THREE, FLIPS, (3, 1, 0, 0)), row_up(THREE, FLIPS, (1, 1)), row_up(THREE, FLIPS, (2, 0))]
+[(0, 1), (0, 1, 1, 3, 4), (3, 1), (3, 1, 0, 0), (6, 0, 0, 0)]
+>>> [kinds_down(THREE, FLIPS, (0, 1, 0, 0)), kinds_down(THREE, FLIPS, (0, 0, 1, 0)), kinds_up(THREE, FLIPS, (0, 1))]
+[(1, 1), (1, 0), (0, 1, 0, 0)]
+>>> from movemarks.point.sets import MovedSet
+>>> led = set_up(MovedSet.of_kinds(FLIPS, (0, 1)), THREE)
+>>> [led.actions, led == MovedSet.places_of(THREE), set_down(led, FLIPS).actions]
+[((1, 0, 2), (1, 2, 0)), True, ((0, 2, 1),)]
+>>> [map_count(THREE, (0, 1, 0, 0), (3, 1, 0, 0)), map_count(THREE, (1, 0, 0, 0), (3, 1, 0, 0))]
+[1, 3]
+>>> class_indices(FLIPS, THREE)
+raises InvalidOperation
+>>> from movemarks.point.sets import MovedSet
+>>> SWAP = Group(3, ((1, 0, 2),))
+>>> [row_up_power(THREE, SWAP, (2, 0)), row_up_power(THREE, SWAP, (3, 1)), row_up_power(THREE, SWAP, (-1, 1))]
+[(8, 0, 2, 0), (27, 3, 3, 1), (-1, -1, -1, 1)]
+>>> [maps_row(THREE, (3, 1, 0, 0), (0, 1, 0, 0)), lots_all_row(THREE, (0, 1, 0, 0)), [lots_row(THREE, (0, 1, 0, 0), many) for many in (0, 2, 4)]]
+[(27, 3, 3, 1), (8, 4, 2, 2), [(1, 1, 1, 1), (3, 1, 0, 0), (0, 0, 0, 0)]]
+>>> NATURAL = MovedSet.places_of(THREE)
+>>> [part_sizes(THREE, (0, 1, 0, 0), 1), maps_set(NATURAL, NATURAL).marks, list(each_lot(NATURAL, 2)), lots_set(NATURAL, 2).kinds]
+[{1: 1, 2: 1}, (27, 3, 3, 1), [(0, 1), (0, 2), (1, 2)], (0, 1, 0, 0)]
+>>> POWER = up_power_set(MovedSet.of_cosets(SWAP, SWAP.moves[:1]), THREE)
+>>> [POWER.size, POWER.marks, POWER.kinds]
+[8, (8, 0, 2, 0), (1, 0, 1, 0)]
+>>> lots_row(THREE, (0, -1, 0, 0), 1)
+raises InvalidKinds
+>>> TWICE, TURNS = ((0, 1, 2, 3), (2, 3, 0, 1)), ((0, 1, 2), (1, 2, 0), (2, 0, 1))
+>>> [quotient_group(SQUARE, TWICE).makers, quotient_group(THREE, TURNS).order, image_of(THREE, TURNS, (1, 0, 2))]
+[((3, 2, 1, 0), (1, 0, 3, 2)), 2, (1, 0)]
+>>> [quotient_classes(SQUARE, TWICE), image_classes(SQUARE, TWICE), quotient_classes(THREE, TURNS), behind(THREE, TURNS, ((0, 1),)) == TURNS]
+[(3, 4, 5, 6, 7), (0, 1, 2, 0, 1, 2, 3, 4), (2, 3), True]
+>>> [row_left(SQUARE, TWICE, (4, 2, 0, 0, 0, 0, 0, 0)), row_left(THREE, TURNS, (8, 0, 2, 0)), row_lifted(THREE, TURNS, (2, 0)), kinds_lifted(THREE, TURNS, (1, 3))]
+[(0, 0, 0, 0, 0), (2, 0), (2, 0, 2, 0), (0, 0, 1, 3)]
+>>> row_lifted(SQUARE, TWICE, (4, 0, 0, 0, 0)), kinds_left(THREE, TURNS, (5, 1, 2, 7))
+((4, 0, 0, 4, 0, 0, 0, 0), (2, 7))
+>>> quotient_group(THREE, ((0, 1, 2), (0, 2, 1)))
+raises InvalidOperation
+>>> quotient_group(FIVE, ((0, 1, 2, 3, 4),))
+raises TooMany(24)
+>>> [square_rows(THREE), square_rows(FIVE)[1], square_kinds(FIVE)[1], len(list(each_square(FIVE)))]
+[((1, 1, 1, 1),), (0, 0, 0, 0, 0, 0, 0, 0, 1), (-1, 2, 1, 0, 0, -1, -1, -1, 1), 4]
+>>> [is_own_square(THREE, (1, 1, 0, 0)), is_square_paper(THREE, (1, 1, 0, 0), ("steps", 1, 3)), square_paper(FIVE, square_rows(FIVE)[1])]
+[False, True, ('sum', (8,))]
+>>> HALF = ((1, 1), (1, 1), (0, 1), (0, 1))
+>>> [square_rows_at(THREE, 2), square_rows_at(THREE, 3), is_row_at(THREE, 2, HALF), is_row_at(THREE, 3, HALF)]
+[((1, 1, 0, 0), (0, 0, 1, 1)), ((1, 0, 1, 0), (0, 1, 0, 0), (0, 0, 0, 1)), True, False]
+>>> [part_kinds(THREE, 3), part_bottom(THREE, 3), part_bottom(THREE, 0), kinds_of_ratios(THREE, ((1, 2),) * 4)]
+[((1, 2), (-1, 1), (-1, 2), (1, 1)), 2, 6, ((0, 1), (0, 1), (0, 1), (1, 2))]
+>>> square_paper(THREE, (2, 0, 0, 0))
+raises InvalidOperation
 """
 
 
 def names():
     """All names that the examples use."""
     found = {}
-    for module in (errors, integers, tables, moves, groups, subgroups, steps, sets, marks, rows, sums):
+    for module in (errors, integers, tables, moves, groups, subgroups, steps, sets, marks, rows, sums, changes, powers,
+                   quotients, squares):
         found.update(module.__dict__)
     return found
 

@@ -1,0 +1,1 @@
+"""Rows that are their own squares."""
