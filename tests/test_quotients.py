@@ -221,6 +221,8 @@ class Wrong(Case):
     def test_not_kept(self):
         for call in (quotient_group, quotient_classes, image_classes):
             self.assert_raises(InvalidOperation, call, THREE, FLIP)
+            # A class with two subgroups.
+            self.assert_raises(InvalidOperation, call, SQUARE, ((0, 1, 2, 3), (0, 3, 2, 1)))
         self.assert_raises(InvalidOperation, set_left, MovedSet.places_of(THREE), FLIP)
         self.assert_raises(InvalidOperation, set_lifted, THREE, FLIP, MovedSet.places_of(THREE))
         # The further parameters come ahead.

@@ -221,8 +221,8 @@ class AtPrimes(Case):
         self.assert_true(is_row_at(THREE, 2, good))
         wrong = WRONG + NO_ROWS[:-3] + (
             (1, 1, 0, 0), good[:3], good + good[:1], list(good), (good,), None, ((2, 2),) + good[1:], ((0, 3),) + good[1:],
-            ((1, -1),) + good[1:], ((1, 0),) + good[1:], ((True, 1),) + good[1:], ((1, True),) + good[1:], ([1, 1],) + good[1:],
-            ((1, 1, 1),) + good[1:], ((1,),) + good[1:], (None,) + good[1:], ((1, None),) + good[1:], (("1", 1),) + good[1:],
+            ((3, 3),) + good[1:], ((1, 1), (1, 1), (0, 3), (0, 1)), ((-1, -1),) + good[1:], ((1, -1),) + good[1:], ((1, 0),) + good[1:],
+            ((True, 1),) + good[1:], ((1, True),) + good[1:], ([1, 1],) + good[1:], ((1, 1, 1),) + good[1:], ((1,),) + good[1:], (None,) + good[1:], ((1, None),) + good[1:], (("1", 1),) + good[1:],
             ((1, 1), (1, 1), (0, 1), (False, 1)), ((1, 1), (1, 1), (0, 1), 0), ((-2, 4),) * 4, ((0, 1), (1, 1), (0, 1), (0, 1)))
         for value in wrong:
             self.assert_false(is_row_at(THREE, 2, value))

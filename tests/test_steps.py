@@ -202,6 +202,8 @@ class Papers(Case):
         self.assert_true(is_down_paper(FIVE, even, ("perfect", even)))
         for value in (unit, EVERY.moves, even[:12], list(even), tuple(reversed(even)), (), None, FIVE, (even,)):
             self.assert_false(is_down_paper(EVERY, EVERY.moves, ("perfect", value)))
+        for word in ("Perfect", "perfect ", "", "chain", True, None, even):
+            self.assert_false(is_down_paper(EVERY, EVERY.moves, (word, even)))
         self.assert_false(is_down_paper(EVERY, unit, ("perfect", even)))
         self.assert_false(is_down_paper(THREE, THREE.moves, ("perfect", UNIT)))
         self.assert_false(is_down_paper(THREE, THREE.moves, ("perfect", THREE.moves)))
