@@ -66,6 +66,9 @@ class Sizes(Case):
                     self.assertEqual(list(told), sorted(told))
         self.assertEqual(part_sizes(THREE, (LONG, 0, 0, 1), 2), {1: 1, 3: 2 * LONG})
         self.assertEqual(part_sizes(THREE, (0, LONG, 0, LONG), 0), {1: 4 * LONG})
+        changed = part_sizes(THREE, (0, 1, 0, 0), 1)
+        changed[1] = 5
+        self.assertEqual(part_sizes(THREE, (0, 1, 0, 0), 1), {1: 1, 2: 1})
         self.assertEqual((part_sizes(ALONE, (0,), 0), part_sizes(THREE, (0,) * 4, 3)), ({}, {}))
 
 

@@ -45,8 +45,8 @@ def each_square(group):
     found = [tuple([0 for _ in group.lattice.families])]
     for least in square_rows(group):
         found = found + [tuple([one + other for one, other in zip(row, least)]) for row in found]
-    for row in sorted(found):
-        yield row
+    for square in sorted(found):
+        yield square
 
 
 def _need_bits(group, row):
