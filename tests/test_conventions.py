@@ -6,14 +6,16 @@ import unittest
 from helpers import ALONE, Case, PAIRS, SQUARE, THREE
 from movemarks import errors
 from movemarks.base import integers, tables
-from movemarks.lattice import steps, subgroups
+from movemarks.equal import singles
+from movemarks.factor import factors
+from movemarks.lattice import moebius, steps, subgroups
 from movemarks.made import changes, powers, quotients, sums
 from movemarks.mark import marks, rows
 from movemarks.move import groups, moves
 from movemarks.move.groups import Group
 from movemarks.point import sets
 from movemarks.point.sets import MovedSet
-from movemarks.square import squares
+from movemarks.square import signs, squares
 
 ALONE_OF_FOUR = Group(4, ())
 FUNCTIONS = {
@@ -58,6 +60,17 @@ FUNCTIONS = {
               "square_paper(group, row)", "is_square_paper(group, row, value)", "is_row_at(group, prime, value)",
               "square_rows_at(group, prime)", "part_kinds(group, index)", "part_bottom(group, index)",
               "kinds_of_ratios(group, ratios)"),
+    signs: ("is_sign_row(group, value)", "sign_map(group, row, index)", "sign_paper(group, row)", "is_sign_paper(group, row, value)",
+            "sign_basis(group)", "sign_count(group)", "each_sign_row(group)", "part_row(group, kinds)", "half_rows(group)"),
+    singles: ("single_classes(group)", "single_marks(group, kinds)", "counts_of(moved)", "equal_lattice(group)",
+              "is_equal_kinds(group, value)", "apart(group, kinds)", "are_equal_counts(one, other)", "does_go_along(one, other, value)",
+              "equal_paper(one, other)", "is_equal_paper(one, other, value)", "pair_parts(one, other)"),
+    moebius: ("moebius(group, low, high)", "chain_counts(group, low, high)", "moebius_row(group)", "makings(group, many)",
+              "making_powers(group)", "least_makers(group)", "each_making(group, many)", "is_meet(group, subgroup)",
+              "common_part(group)", "chain_sum(group, prime)"),
+    factors: ("closed_lot(group, lot)", "is_closed_lot(group, value)", "prime_lot(group, prime)", "single_lot(group)",
+              "is_made_of(group, lot, value)", "single_factor(group, lot)", "is_single_factor(group, lot, value)",
+              "local_factor(group, lot)", "lot_table(group, lot)", "lot_divisors(group, lot)"),
 }
 METHODS = {
     Group: ("__init__(self, places, makers)", "word(self, move)", "of_word(self, word)", "order_counts(self)"),
@@ -122,6 +135,11 @@ class Calls(Case):
             self.assertEqual(marks.mark_table(SQUARE), marks.mark_table(Group.mirrors(4)))
             self.assertEqual(rows.row_paper(THREE, (1, 0, 0, 1)), rows.row_paper(Group.every(3), (1, 0, 0, 1)))
             self.assertEqual(squares.square_paper(THREE, (1, 0, 0, 1)), squares.square_paper(Group.every(3), (1, 0, 0, 1)))
+            self.assertEqual(signs.sign_paper(THREE, (1, 1, -1, 1)), signs.sign_paper(Group.every(3), (1, 1, -1, 1)))
+            self.assertEqual(singles.equal_paper(MovedSet.places_of(PAIRS), MovedSet.places_of(PAIRS)),
+                             singles.equal_paper(MovedSet.places_of(PAIRS), MovedSet.places_of(Group(4, PAIRS.makers[::-1]))))
+            self.assertEqual(factors.single_factor(THREE, (1, 2)), factors.single_factor(Group.every(3), (1, 2)))
+            self.assertEqual(list(moebius.each_making(SQUARE, 2)), list(moebius.each_making(Group.mirrors(4), 2)))
             self.assertEqual(list(powers.each_lot(MovedSet.places_of(SQUARE), 2)), list(powers.each_lot(MovedSet.places_of(SQUARE), 2)))
 
     def test_tuples(self):
@@ -130,7 +148,10 @@ class Calls(Case):
                 subgroups.maximal(SQUARE, SQUARE.moves), subgroups.class_members(SQUARE, 1), next(subgroups.each_flag(SQUARE)),
                 marks.mark_table(SQUARE), steps.levels(SQUARE, SQUARE.moves), sums.double_cosets(SQUARE, SQUARE.moves, SQUARE.moves),
                 marks.still_cosets(SQUARE, SQUARE.moves[:1], SQUARE.moves), MovedSet.places_of(SQUARE).actions, MovedSet.places_of(SQUARE).parts(), moves.cycles((1, 0, 2)),
-                tables.table_product(((1,),), ((2,),)), tables.kernel(((0, 0),)))
+                tables.table_product(((1,),), ((2,),)), tables.kernel(((0, 0),)), signs.sign_basis(SQUARE), signs.half_rows(SQUARE),
+                singles.equal_lattice(SQUARE), singles.apart(PAIRS, (1,) * 5), moebius.making_powers(SQUARE), moebius.common_part(SQUARE),
+                singles.pair_parts(MovedSet.places_of(PAIRS), MovedSet.places_of(PAIRS)), factors.lot_table(SQUARE, (1, 2)),
+                singles.equal_paper(MovedSet.places_of(PAIRS), MovedSet.places_of(PAIRS))[1])
         for value in told:
             self.assertIs(value.__class__, tuple)
             for member in value:
@@ -146,7 +167,13 @@ class Calls(Case):
                     quotients.image_of(PAIRS, PAIRS.moves, PAIRS.moves[1]), quotients.row_left(PAIRS, PAIRS.moves, (1,) * 5),
                     quotients.behind(PAIRS, PAIRS.moves, ((0,),)), quotients.kinds_lifted(PAIRS, PAIRS.moves, (1,)),
                     squares.part_kinds(PAIRS, 2), squares.square_rows(PAIRS), squares.square_rows_at(PAIRS, 2),
-                    squares.kinds_of_ratios(PAIRS, ((1, 2),) * 5), sums.pair_kinds(PAIRS, 1, 2), sums.marks_equation(PAIRS, (1,) * 5), sums.row_plus(ALONE, (1,), (1,))):
+                    squares.kinds_of_ratios(PAIRS, ((1, 2),) * 5), sums.pair_kinds(PAIRS, 1, 2), sums.marks_equation(PAIRS, (1,) * 5), sums.row_plus(ALONE, (1,), (1,)),
+                    signs.sign_map(PAIRS, (1,) * 5, 2), next(signs.each_sign_row(PAIRS)), signs.part_row(PAIRS, (1,) * 5),
+                    signs.half_rows(PAIRS)[0], signs.sign_paper(PAIRS, (1,) * 5)[1], singles.single_classes(PAIRS),
+                    singles.single_marks(PAIRS, (1,) * 5), singles.counts_of(MovedSet.places_of(PAIRS)), moebius.moebius_row(PAIRS),
+                    moebius.making_powers(PAIRS)[0], next(moebius.each_making(PAIRS, 2)), factors.closed_lot(PAIRS, (4,)),
+                    factors.prime_lot(PAIRS, 2), factors.single_lot(PAIRS), factors.single_factor(PAIRS, (4,))[2],
+                    factors.local_factor(PAIRS, (4,)), factors.local_factor(PAIRS, (4,))[1], factors.lot_divisors(PAIRS, (4,))):
             self.assertIs(row.__class__, tuple)
 
     def test_generators_do_not_meet(self):
@@ -154,6 +181,8 @@ class Calls(Case):
         self.assertEqual((next(one), next(one), next(other)), ((0, 0, 0, 0), (0, 0, 1, 0), (0, 0, 0, 0)))
         one, other = iter(THREE), iter(THREE)
         self.assertEqual((next(one), next(one), next(other)), ((0, 1, 2), (0, 2, 1), (0, 1, 2)))
+        one, other = signs.each_sign_row(ALONE), signs.each_sign_row(ALONE)
+        self.assertEqual((next(one), next(one), next(other)), ((-1,), (1,), (-1,)))
         flags, more = subgroups.each_flag(THREE), subgroups.each_flag(THREE)
         self.assertEqual(next(flags), next(more))
 
@@ -167,6 +196,12 @@ class Calls(Case):
         self.assertFalse(steps.is_down_paper(ALONE, ALONE.moves, ("chain", (((False,),),))))
         self.assertFalse(squares.is_own_square(ALONE, (True,)) or squares.is_square_paper(ALONE, (1,), ("sum", (False,))))
         self.assertFalse(squares.is_row_at(ALONE, 2, ((True, 1),)) or squares.is_row_at(ALONE, 2, ((1, True),)))
+        self.assertFalse(signs.is_sign_row(ALONE, (True,)) or signs.is_sign_paper(ALONE, (1,), ("kinds", (True,))))
+        self.assertFalse(singles.is_equal_kinds(PAIRS, (True, -1, -1, -1, 2)))
+        places = MovedSet.places_of(ALONE)
+        self.assertFalse(singles.does_go_along(places, places, ((True,),)) or singles.is_equal_paper(places, places, ("table", ((True,),))))
+        self.assertFalse(factors.is_closed_lot(ALONE, (False,)) or factors.is_made_of(ALONE, (0,), (True,)))
+        self.assertFalse(factors.is_single_factor(ALONE, (0,), ("factor", True, (1,))))
         self.assertTrue(subgroups.is_subgroup(PAIRS, ((0, 1, 2, 3),)))
 
 

@@ -4,12 +4,14 @@ import unittest
 
 from movemarks import errors
 from movemarks.base import integers, tables
-from movemarks.lattice import steps, subgroups
+from movemarks.equal import singles
+from movemarks.factor import factors
+from movemarks.lattice import moebius, steps, subgroups
 from movemarks.made import changes, powers, quotients, sums
 from movemarks.mark import marks, rows
 from movemarks.move import groups, moves
 from movemarks.point import sets
-from movemarks.square import squares
+from movemarks.square import signs, squares
 
 EXAMPLES = r"""
 >>> THREE = Group(3, ((1, 0, 2), (1, 2, 0)))
@@ -177,6 +179,58 @@ raises TooMany(24)
 [((1, 2), (-1, 1), (-1, 2), (1, 1)), 2, 6, ((0, 1), (0, 1), (0, 1), (1, 2))]
 >>> square_paper(THREE, (2, 0, 0, 0))
 raises InvalidOperation
+>>> [sign_basis(THREE), sign_count(THREE), sign_count(SQUARE), sign_count(PAIRS), sign_count(FIVE), sign_count(Group.turning(9))]
+[((-1, 1, -1, 1), (1, -1, 1, 1), (1, 1, 1, -1)), 8, 32, 16, 32, 2]
+>>> [sign_paper(THREE, (1, 1, 1, -1)), is_sign_paper(THREE, (1, 1, -1, 1), ("moves", 0, (0, 2, 1), (1, 0, 2))), is_sign_paper(THREE, (1, 1, -1, 1), ("moves", 0, (0, 1, 2), (1, 0, 2)))]
+[('kinds', (-1, 2, 1, -1)), True, False]
+>>> [sign_map(THREE, (1, 1, -1, 1), 0), sign_map(THREE, (1, -1, 1, -1), 0), list(each_sign_row(THREE))[:3]]
+[(1, 1, 1, -1, -1, 1), (1, -1, -1, 1, 1, -1), [(-1, -1, -1, -1), (-1, -1, -1, 1), (-1, 1, -1, -1)]]
+>>> [part_row(THREE, (0, 1, 0, 0)), part_row(THREE, (1, -1, 0, 2)), half_rows(THREE), half_rows(FIVE), [index for index, row in half_rows(PAIRS)]]
+[(-1, 1, -1, -1), (-1, -1, -1, 1), ((2, (1, -1, 1, -1)),), (), [1, 2, 3]]
+>>> EVEN = Group.even(4)
+>>> [sign_basis(EVEN), is_sign_row(EVEN, (1, 1, 1, 1, -1)), sign_map(EVEN, (1, 1, 1, 1, -1), 0) == (1,) * 12, is_sign_row(EVEN, 1)]
+[((-1, -1, -1, 1, 1), (1, 1, 1, -1, -1)), False, True, False]
+>>> [is_sign_paper(EVEN, (1, 1, 1, 1, -1), ("moves", 3, (0, 2, 3, 1), (0, 2, 3, 1))), sign_basis(Group.turning(4))]
+[True, ((-1, -1, 1), (1, 1, -1))]
+>>> [single_classes(THREE), single_classes(PAIRS), single_classes(SQUARE), equal_lattice(THREE), equal_lattice(PAIRS), len(equal_lattice(SQUARE))]
+[(0, 1, 2), (0, 1, 2, 3), (0, 1, 2, 3, 6), ((1, -2, -1, 2),), ((1, -1, -1, -1, 2),), 3]
+>>> [apart(PAIRS, (1, -1, -1, -1, 2)), single_marks(THREE, (1, -2, -1, 2)), single_marks(THREE, (0, 0, 0, 1)), is_equal_kinds(THREE, (2, -4, -2, 4))]
+[((1, 0, 0, 0, 2), (0, 1, 1, 1, 0)), (0, 0, 0), (1, 1, 1), True]
+>>> from movemarks.point.sets import MovedSet
+>>> ONE, OTHER = MovedSet.of_kinds(PAIRS, (1, 0, 0, 0, 2)), MovedSet.of_kinds(PAIRS, (0, 1, 1, 1, 0))
+>>> [are_equal_counts(ONE, OTHER), ONE == OTHER, counts_of(ONE) == counts_of(OTHER), equal_paper(ONE, OTHER)[0], is_equal_paper(ONE, OTHER, ("move", (1, 0, 2, 3)))]
+[True, False, True, 'table', False]
+>>> PLACES = MovedSet.places_of(PAIRS)
+>>> [counts_of(PLACES), len(pair_parts(PLACES, PLACES)), does_go_along(PLACES, PLACES, ((0, 1, 0, 0), (1, 0, 0, 0), (0, 0, 2, 0), (0, 0, 0, 2)))]
+[(4, 2, 2, 0), 6, True]
+>>> are_equal_counts(PLACES, MovedSet.places_of(SQUARE))
+raises InvalidOperation
+>>> UNIT = THREE.moves[:1]
+>>> [moebius(THREE, UNIT, THREE.moves), moebius_row(THREE), moebius_row(SQUARE), chain_counts(SQUARE, SQUARE.moves[:1], SQUARE.moves)]
+[3, (3, -1, -1, 1), (0, 0, 0, 2, -1, -1, -1, 1), {1: 1, 2: 8, 3: 7}]
+>>> [[makings(THREE, many) for many in (0, 1, 2, 3)], making_powers(THREE), making_powers(SQUARE), makings(FIVE, 2), least_makers(FIVE)]
+[[0, 0, 18, 168], ((1, 3), (2, -3), (3, -1), (6, 1)), ((2, 2), (4, -3), (8, 1)), 2280, 2]
+>>> [len(list(each_making(PAIRS, 2))), len(common_part(SQUARE)), common_part(PAIRS) == PAIRS.moves[:1], is_meet(THREE, UNIT)]
+[6, 2, True, True]
+>>> from movemarks.move.groups import beside
+>>> WIDE = beside(Group.even(4), Group.turning(2))
+>>> [least_makers(WIDE), makings(WIDE, 2), [chain_sum(FIVE, prime) for prime in (2, 3, 5, 7)], chain_sum(SQUARE, 2)]
+[2, 288, [5, 10, 6, 0], 1]
+>>> TWENTY = Group(5, ((1, 2, 3, 4, 0), (0, 2, 4, 1, 3)))
+>>> [TWENTY.order, moebius_row(TWENTY), is_meet(TWENTY, TWENTY.moves[:1]), least_makers(TWENTY)]
+[20, (0, 1, -1, 0, -1, 1), True, 2]
+>>> moebius(THREE, THREE.moves, UNIT)
+raises InvalidOperation
+>>> [closed_lot(THREE, (1,)), closed_lot(SQUARE, (5,)), closed_lot(FIVE, (7,)), is_closed_lot(THREE, (0, 2)), is_closed_lot(THREE, (2,)), single_lot(SQUARE)]
+[(0, 1), (0, 2, 3, 5), (0, 1, 2, 3, 7), True, False, (0, 1, 2, 3, 6)]
+>>> [prime_lot(FIVE, 2), local_factor(FIVE, (3,)), local_factor(FIVE, (2,)), local_factor(SQUARE, (5,)), local_factor(THREE, (0,))]
+[(0, 1, 3), (15, (-1, 0, 0, 5, 0, 0, 0, 0, 0)), (20, (-3, 0, 10, 0, 0, 0, 0, 0, 0)), (2, (0, 0, 0, 0, 0, 1, 0, 0)), (6, (1, 0, 0, 0))]
+>>> [single_factor(THREE, (1, 2)), single_factor(THREE, (1,)), single_factor(FIVE, single_lot(FIVE))[1], is_single_factor(SQUARE, (1, 2), ("class", 6))]
+[('factor', 2, (-1, 2, 1, 0)), ('class', 2), 2, True]
+>>> [lot_table(THREE, (1, 2)), lot_divisors(THREE, (1, 2)), is_made_of(THREE, (1,), (5, -2, 0, 0)), is_made_of(THREE, (1,), (5, -2, 1, 0))]
+[((6, 0, 0), (3, 1, 0), (2, 0, 2)), (1, 2, 6), True, False]
+>>> closed_lot(THREE, (2, 1))
+raises InvalidOperation
 """
 
 
@@ -184,7 +238,7 @@ def names():
     """All names that the examples use."""
     found = {}
     for module in (errors, integers, tables, moves, groups, subgroups, steps, sets, marks, rows, sums, changes, powers,
-                   quotients, squares):
+                   quotients, squares, signs, singles, moebius, factors):
         found.update(module.__dict__)
     return found
 

@@ -113,6 +113,14 @@ def common_multiple(numbers):
     return multiple
 
 
+def raised(number, many):
+    """The product of so many times the number; 1 for none."""
+    power = 1
+    for _ in range(many):
+        power = power * number
+    return power
+
+
 def reduced(top, bottom):
     """The ratio of two integers with any number of digits, the second one other than 0."""
     shared = gcd(top, bottom)

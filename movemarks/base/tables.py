@@ -90,6 +90,16 @@ def _begun_with(rows, begun):
     return [row[column] for row, column in zip(rows, begun)]
 
 
+def is_invertible(rows):
+    """Whether a tuple of rows of equally many integers, with any number of digits, is square and has no determinant 0.
+
+    Without rows the determinant is 1.
+    """
+    if any([len(row) != len(rows) for row in rows]):
+        return False
+    return len(rows) == 0 or len(_stairs(rows)[1]) == len(rows)
+
+
 def determinant(table):
     """The determinant of a square table."""
     _need_table(table)
@@ -140,7 +150,7 @@ def kernel(table):
     return tuple(found)
 
 
-def _bezout(one, other):
+def bezout(one, other):
     """The greatest common divisor of two integers above 0, and how often it takes each of them."""
     left, right = one, other
     left_one, right_one = 1, 0
@@ -151,7 +161,8 @@ def _bezout(one, other):
     return left, left_one, (left - left_one * one) // other
 
 
-def _mixed(one, one_times, other, other_times, bound):
+def mixed(one, one_times, other, other_times, bound):
+    """The sum of so many times two lines, modulo the bound."""
     return [(one_times * left + other_times * right) % bound for left, right in zip(one, other)]
 
 
@@ -161,13 +172,13 @@ def _column_cleared(rows, bound):
     cleared = []
     for row in rows[1:]:
         if row[0] % top[0] == 0:
-            cleared.append(_mixed(row, 1, top, -(row[0] // top[0]), bound) if row[0] != 0 else row)
+            cleared.append(mixed(row, 1, top, -(row[0] // top[0]), bound) if row[0] != 0 else row)
         else:
-            shared, top_times, row_times = _bezout(top[0], row[0])
+            shared, top_times, row_times = bezout(top[0], row[0])
             top_part = top[0] // shared
             row_part = row[0] // shared
-            cleared.append(_mixed(row, top_part, top, -row_part, bound))
-            top = _mixed(top, top_times, row, row_times, bound)
+            cleared.append(mixed(row, top_part, top, -row_part, bound))
+            top = mixed(top, top_times, row, row_times, bound)
     return [top] + cleared
 
 

@@ -1,6 +1,6 @@
 """What the parameters of a group must be: its subgroups, its moves, the indices of its classes."""
 
-from movemarks.base.integers import is_integer, need_between
+from movemarks.base.integers import is_integer, is_whole, need_between
 from movemarks.errors import InvalidKinds, InvalidMove, InvalidOperation, InvalidRow, InvalidSubgroup
 from movemarks.move.groups import need_group
 
@@ -33,22 +33,29 @@ def need_index(group, index):
     need_between(index, 0, len(group.lattice.families) - 1)
 
 
-def _is_row(group, value):
+def is_row(group, value):
     """Whether the value is a tuple of integers, one for each class of a group."""
     if not isinstance(value, tuple) or len(value) != len(group.lattice.families):
         return False
     return all([is_integer(member) for member in value])
 
 
+def is_long_row(group, value):
+    """Whether the value is a tuple of integers with any number of digits, one for each class of a group."""
+    if not isinstance(value, tuple) or len(value) != len(group.lattice.families):
+        return False
+    return all([is_whole(member) for member in value])
+
+
 def need_row(group, row):
     """Raises the error for a value that is no tuple of integers, one for each class of a group."""
-    if not _is_row(group, row):
+    if not is_row(group, row):
         raise InvalidRow("not a tuple of integers, one for each class")
 
 
 def need_kinds(group, kinds):
     """Raises the error for a value that is no tuple of integers, one for each class of a group."""
-    if not _is_row(group, kinds):
+    if not is_row(group, kinds):
         raise InvalidKinds("not a tuple of integers, one for each class")
 
 

@@ -2,7 +2,7 @@
 
 from movemarks.base.integers import is_prime, need_prime
 from movemarks.lattice.needs import need_subgroup, place_of
-from movemarks.lattice.subgroups import told_at
+from movemarks.lattice.subgroups import is_within, told_at
 from movemarks.move.groups import need_group
 from movemarks.move.products import mask_of, orders_of, turned_body
 
@@ -116,14 +116,10 @@ def core_classes(group, prime):
     return tuple([lattice.family_at[_core_place(lattice, family[0], prime)] for family in lattice.families])
 
 
-def _is_within(lattice, low, high):
-    return lattice.masks[low] & lattice.masks[high] == lattice.masks[low]
-
-
 def _is_step(lattice, high, low):
     """Whether the subgroup at the place `low` lies in the one at `high` with prime index, and is kept by it."""
     body, lower = lattice.bodies[high], lattice.bodies[low]
-    if not _is_within(lattice, low, high) or not is_prime(len(body) // len(lower)):
+    if not is_within(lattice, low, high) or not is_prime(len(body) // len(lower)):
         return False
     return all([turned_body(lattice.table, lattice.back, lower, by) == lower for by in body])
 
@@ -166,7 +162,7 @@ def is_down_paper(group, subgroup, value):
     low = place_of(group, value[1])
     if value[0] != PERFECT or low is None or low == 0:
         return False
-    return _is_within(group.lattice, low, place) and _is_perfect_at(group.lattice, low)
+    return is_within(group.lattice, low, place) and _is_perfect_at(group.lattice, low)
 
 
 def each_level(group):

@@ -140,7 +140,12 @@ def lies_table(group):
     return tuple([tuple([many_above(group.lattice, family[0], others) for others in families]) for family in families])
 
 
-def _maximal_places(lattice, top):
+def is_within(lattice, low, high):
+    """Whether the subgroup at the one place lies in that at the other one."""
+    return lattice.masks[low] & lattice.masks[high] == lattice.masks[low]
+
+
+def maximal_places(lattice, top):
     """The ascending list of the places of the subgroups that are maximal in the one at a place."""
     found = []
     # A subgroup that is not maximal lies in a maximal one, which stands behind it.
@@ -155,7 +160,7 @@ def maximal(group, subgroup):
     """The tuple of the subgroups that are maximal in a subgroup, in their order."""
     need_group(group)
     place = need_subgroup(group, subgroup)
-    return tuple([told_at(group, low) for low in _maximal_places(group.lattice, place)])
+    return tuple([told_at(group, low) for low in maximal_places(group.lattice, place)])
 
 
 def coset_bodies(table, body):
@@ -178,7 +183,7 @@ def _places_above(lattice):
     """For each subgroup the list of the places of those in which it is maximal, descending."""
     above = [[] for _ in lattice.bodies]
     for top in range(len(lattice.bodies) - 1, -1, -1):
-        for low in _maximal_places(lattice, top):
+        for low in maximal_places(lattice, top):
             above[low].append(top)
     return above
 

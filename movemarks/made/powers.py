@@ -30,7 +30,8 @@ def _parts_under(lattice, index, kinds):
     return found
 
 
-def _sizes_under(lattice, index, kinds):
+def sizes_under(lattice, index, kinds):
+    """The dict from the sizes of the parts under the first subgroup of a class to how many have this size."""
     sizes = {}
     for size, _, many in sorted(_parts_under(lattice, index, kinds)):
         sizes[size] = sizes.get(size, 0) + many
@@ -42,7 +43,7 @@ def part_sizes(group, kinds, index):
     need_group(group)
     need_set_kinds(group, kinds)
     need_index(group, index)
-    return _sizes_under(group.lattice, index, kinds)
+    return sizes_under(group.lattice, index, kinds)
 
 
 def row_up_power(group, small, row):
@@ -95,7 +96,7 @@ def lots_row(group, kinds, many):
     need_group(group)
     need_set_kinds(group, kinds)
     need_between(many, 0, MAX_MANY)
-    return tuple([_choices(_sizes_under(group.lattice, index, kinds), many) for index in range(len(kinds))])
+    return tuple([_choices(sizes_under(group.lattice, index, kinds), many) for index in range(len(kinds))])
 
 
 def lots_all_row(group, kinds):

@@ -123,14 +123,20 @@ def kinds_of(group, row):
     return kinds_of_row(group, row)
 
 
-def _made_by_each(lattice):
+def class_by_move(lattice):
     """For each move the index of the class of the subgroup that it makes."""
     bodies = [tuple(sorted(powers_of(lattice.table, move))) for move in range(len(lattice.table))]
     return [lattice.family_at[lattice.body_at[body]] for body in bodies]
+
+
+def parts_by_class(group, row):
+    """For each class the number of the parts that a set with the mark row has under its first subgroup."""
+    made = class_by_move(group.lattice)
+    return tuple([sum([row[made[move]] for move in body]) // len(body) for body in group.lattice.first_bodies()])
 
 
 def part_sum(group, row):
     """The sum of the row at the subgroups that all moves make, divided by the order: a ratio."""
     need_group(group)
     need_row(group, row)
-    return reduced(sum([row[index] for index in _made_by_each(group.lattice)]), group.order)
+    return reduced(sum([row[index] for index in class_by_move(group.lattice)]), group.order)

@@ -4,7 +4,7 @@ from math import lcm
 
 from movemarks.base.integers import is_between, is_whole
 from movemarks.errors import InvalidOperation
-from movemarks.lattice.needs import need_index, need_row
+from movemarks.lattice.needs import is_long_row, need_index, need_row
 from movemarks.lattice.subgroups import keeper_body
 from movemarks.mark.marks import keeper_indices, kinds_and_rest, kinds_of_row, ratio_kinds, row_of_kinds
 from movemarks.move.groups import need_group
@@ -61,7 +61,8 @@ def first_fault(group, row):
     return _first_fault(group.lattice, row)
 
 
-def _plus_and_less(kinds):
+def plus_and_less(kinds):
+    """The kinds of the two sets, without a class in both, of which these kinds are the difference."""
     plus = tuple([max(many, 0) for many in kinds])
     less = tuple([max(-many, 0) for many in kinds])
     return plus, less
@@ -76,15 +77,13 @@ def row_paper(group, row):
         index = _first_fault(group.lattice, row)
         total, divisor = _row_sum(group.lattice, row, index)
         return ("sum", index, total, divisor)
-    plus, less = _plus_and_less(kinds)
+    plus, less = plus_and_less(kinds)
     return ("sets", plus, less)
 
 
 def _are_set_kinds(group, value):
     """Whether the value is kinds of a set, with any number of digits."""
-    if not isinstance(value, tuple) or len(value) != len(group.lattice.families):
-        return False
-    return all([is_whole(many) and many >= 0 for many in value])
+    return is_long_row(group, value) and all([many >= 0 for many in value])
 
 
 def _are_right_sets(group, row, plus, less):
@@ -178,7 +177,7 @@ def built_pair(group, row):
     kinds = kinds_of_row(group, row)
     if kinds is None:
         raise InvalidOperation("the row is no mark row")
-    plus, less = _plus_and_less(kinds)
+    plus, less = plus_and_less(kinds)
     # Kinds with too many digits are of too many points, and no wrong kinds.
     need_points(points_of(group.lattice, plus))
     need_points(points_of(group.lattice, less))

@@ -1,0 +1,1 @@
+"""Sets that cannot be told apart by single moves."""

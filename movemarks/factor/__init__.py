@@ -1,0 +1,1 @@
+"""Factors of lots of classes."""
