@@ -6,6 +6,9 @@ import unittest
 from helpers import ALONE, Case, PAIRS, SQUARE, THREE
 from movemarks import errors
 from movemarks.base import integers, tables
+from movemarks.count import counts
+from movemarks.desk import desks, promises
+from movemarks.desk.desks import Desk
 from movemarks.equal import singles
 from movemarks.factor import factors
 from movemarks.lattice import moebius, steps, subgroups
@@ -16,6 +19,7 @@ from movemarks.move.groups import Group
 from movemarks.point import sets
 from movemarks.point.sets import MovedSet
 from movemarks.square import signs, squares
+from movemarks.text import texts
 
 ALONE_OF_FOUR = Group(4, ())
 FUNCTIONS = {
@@ -71,17 +75,39 @@ FUNCTIONS = {
     factors: ("closed_lot(group, lot)", "is_closed_lot(group, value)", "prime_lot(group, prime)", "single_lot(group)",
               "is_made_of(group, lot, value)", "single_factor(group, lot)", "is_single_factor(group, lot, value)",
               "local_factor(group, lot)", "lot_table(group, lot)", "lot_divisors(group, lot)"),
+    counts: ("part_count(group, row)", "patterns(group, kinds, colours)", "pattern_row(group, kinds, colours)",
+             "pattern_kinds(group, kinds, colours)", "pattern_powers(group, kinds)", "share_patterns(group, kinds, shares)",
+             "each_pattern_count(group, kinds)", "roots_count(group, number)", "subgroup_counts(group)", "sylow_counts(group)"),
+    promises: ("is_promise(group, value)", "does_hold(group, kinds, promise)", "paper_against(group, kinds, promise)",
+               "is_paper_against(group, kinds, promise, value)"),
+    texts: ("write_move(move)", "read_move(text, places)", "write_group(group)", "read_group(text)", "write_row(row)", "read_row(text)",
+            "write_kinds(kinds)", "read_kinds(text, length)", "table_lines(group)"),
+}
+CONSTANTS = {
+    integers: {"MAX_PRIME": 100, "MAX_FACTORED": 10 ** 9, "MOST_NUMBERS": 1000}, tables: {"MAX_SIZE": 60},
+    moves: {"MAX_PLACES": 24, "MAX_POWER": 10 ** 30}, groups: {"MAX_ORDER": 120, "MAX_SUBGROUPS": 200, "MAX_CLASSES": 60, "MAX_MAKERS": 6},
+    subgroups: {"MAX_MADE_BY": 24, "MAX_MAKERS": 6}, steps: {"CHAIN": "chain", "PERFECT": "perfect"}, sets: {"MOST_POINTS": 60},
+    marks: {"ROADS": ("cosets", "doubles", "turned")}, sums: {"MAX_POWERED": 12}, changes: {"MAX_MAPPED": 20},
+    powers: {"MAX_POINTS": 60, "MAX_LISTED": 600, "MAX_MANY": 60}, quotients: {"MAX_COSETS": 24}, squares: {"SUM": "sum", "STEPS": "steps"},
+    singles: {"MAX_PAIRED": 12, "MOST_ENTRY": 1000}, moebius: {"MAX_MAKERS": 30, "MAX_TUPLES": 4000}, factors: {"MAX_LOT": 24},
+    counts: {"MAX_COLOURS": 100, "MOST_SHARES": 3, "MOST_SHARED": 24}, desks: {"MAX_PROMISES": 8, "MAX_DEEDS": 20},
+    texts: {"MOST_SIGNS": 3000, "MOST_MEMBERS": 60},
 }
 METHODS = {
     Group: ("__init__(self, places, makers)", "word(self, move)", "of_word(self, word)", "order_counts(self)"),
     MovedSet: ("__init__(self, group, size, actions)", "led(self, move, point)", "stabilizer(self, point)",
                "still(self, subgroup)", "parts(self)", "__add__(self, other)", "__mul__(self, other)"),
+    Desk: ("__init__(self, group, kinds)", "do(self, deeds)", "would(self, deeds)", "promise(self, promise)", "drop(self, promise)",
+           "undo(self, count=1)", "at(self, version)"),
 }
+PROPERTIES = {Group: ("places", "makers", "order", "moves", "is_commutative"), MovedSet: ("group", "size", "actions", "kinds", "marks"),
+              Desk: ("group", "kinds", "marks", "promises", "version")}
 CLASS_METHODS = {
     Group: ("turning(number)", "mirrors(number)", "every(number)", "even(number)"),
     MovedSet: ("of_cosets(group, subgroup)", "of_kinds(group, kinds)", "places_of(group)"),
 }
-OPERATORS = {Group: ("__contains__", "__eq__", "__len__", "__iter__", "__str__"), MovedSet: ("__eq__", "__len__", "__str__")}
+OPERATORS = {Group: ("__contains__", "__eq__", "__len__", "__iter__", "__str__"), MovedSet: ("__eq__", "__len__", "__str__"),
+             Desk: ("__contains__", "__eq__", "__len__", "__iter__", "__str__")}
 
 
 def written(name, call):
@@ -111,16 +137,26 @@ class Interface(Case):
         for owner, told in OPERATORS.items():
             for name in told:
                 self.assertIn(name, owner.__dict__)
+        for owner, told in PROPERTIES.items():
+            for name in told:
+                self.assertIsInstance(owner.__dict__[name], property)
+
+    def test_constants(self):
+        for module, told in CONSTANTS.items():
+            for name, value in told.items():
+                self.assertEqual(module.__dict__[name], value)
+                self.assertIs(module.__dict__[name].__class__, value.__class__)
 
     def test_classes_stand_in_their_files(self):
         self.assertEqual((Group.__module__, MovedSet.__module__), ("movemarks.move.groups", "movemarks.point.sets"))
+        self.assertEqual(Desk.__module__, "movemarks.desk.desks")
         self.assertEqual(errors.MarkError.__module__, "movemarks.errors")
 
     def test_generators(self):
         for module in FUNCTIONS:
             for line in FUNCTIONS[module]:
                 call = module.__dict__[line.partition("(")[0]]
-                self.assertIs(inspect.isgeneratorfunction(call), line.startswith("each_"), line)
+                self.assertIs(inspect.isgeneratorfunction(call), line.startswith(("each_", "table_lines")), line)
 
 
 class Calls(Case):
@@ -140,6 +176,9 @@ class Calls(Case):
                              singles.equal_paper(MovedSet.places_of(PAIRS), MovedSet.places_of(Group(4, PAIRS.makers[::-1]))))
             self.assertEqual(factors.single_factor(THREE, (1, 2)), factors.single_factor(Group.every(3), (1, 2)))
             self.assertEqual(list(moebius.each_making(SQUARE, 2)), list(moebius.each_making(Group.mirrors(4), 2)))
+            self.assertEqual(counts.pattern_kinds(THREE, (0, 1, 0, 0), 3), counts.pattern_kinds(Group.every(3), (0, 1, 0, 0), 3))
+            self.assertEqual(promises.paper_against(THREE, (0, -1, 0, -1), ("set",)), promises.paper_against(Group.every(3), (0, -1, 0, -1), ("set",)))
+            self.assertEqual(texts.read_group("3: (0 1) (0 1 2)").makers, texts.read_group("3: (0 1) (0 1 2)").makers)
             self.assertEqual(list(powers.each_lot(MovedSet.places_of(SQUARE), 2)), list(powers.each_lot(MovedSet.places_of(SQUARE), 2)))
 
     def test_tuples(self):
@@ -173,7 +212,11 @@ class Calls(Case):
                     singles.single_marks(PAIRS, (1,) * 5), singles.counts_of(MovedSet.places_of(PAIRS)), moebius.moebius_row(PAIRS),
                     moebius.making_powers(PAIRS)[0], next(moebius.each_making(PAIRS, 2)), factors.closed_lot(PAIRS, (4,)),
                     factors.prime_lot(PAIRS, 2), factors.single_lot(PAIRS), factors.single_factor(PAIRS, (4,))[2],
-                    factors.local_factor(PAIRS, (4,)), factors.local_factor(PAIRS, (4,))[1], factors.lot_divisors(PAIRS, (4,))):
+                    factors.local_factor(PAIRS, (4,)), factors.local_factor(PAIRS, (4,))[1], factors.lot_divisors(PAIRS, (4,)),
+                    counts.part_count(PAIRS, (1,) * 5), counts.pattern_row(PAIRS, (1,) * 5, 2), counts.pattern_kinds(PAIRS, (1,) * 5, 2),
+                    counts.pattern_powers(PAIRS, (1,) * 5), counts.pattern_powers(PAIRS, (1,) * 5)[0], Desk(PAIRS, (1,) * 5).kinds,
+                    Desk(PAIRS, (1,) * 5).marks, Desk(PAIRS, (1,) * 5).promises, promises.paper_against(PAIRS, (1,) * 5, ("free",)),
+                    texts.read_move("(0 1)", 3), texts.read_row("1,2"), texts.read_kinds("[0]", 5), texts.read_group("2: (0 1)").makers):
             self.assertIs(row.__class__, tuple)
 
     def test_generators_do_not_meet(self):
@@ -202,6 +245,8 @@ class Calls(Case):
         self.assertFalse(singles.does_go_along(places, places, ((True,),)) or singles.is_equal_paper(places, places, ("table", ((True,),))))
         self.assertFalse(factors.is_closed_lot(ALONE, (False,)) or factors.is_made_of(ALONE, (0,), (True,)))
         self.assertFalse(factors.is_single_factor(ALONE, (0,), ("factor", True, (1,))))
+        self.assertFalse(promises.is_promise(ALONE, ("mark", False, 0, 1)) or promises.is_promise(ALONE, ("parts", 0, True)))
+        self.assertFalse(promises.is_paper_against(ALONE, (1,), ("parts", 0, 0), ("parts", True)))
         self.assertTrue(subgroups.is_subgroup(PAIRS, ((0, 1, 2, 3),)))
 
 

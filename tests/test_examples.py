@@ -4,6 +4,8 @@ import unittest
 
 from movemarks import errors
 from movemarks.base import integers, tables
+from movemarks.count import counts
+from movemarks.desk import desks, promises
 from movemarks.equal import singles
 from movemarks.factor import factors
 from movemarks.lattice import moebius, steps, subgroups
@@ -12,6 +14,7 @@ from movemarks.mark import marks, rows
 from movemarks.move import groups, moves
 from movemarks.point import sets
 from movemarks.square import signs, squares
+from movemarks.text import texts
 
 EXAMPLES = r"""
 >>> THREE = Group(3, ((1, 0, 2), (1, 2, 0)))
@@ -231,6 +234,36 @@ raises InvalidOperation
 [((6, 0, 0), (3, 1, 0), (2, 0, 2)), (1, 2, 6), True, False]
 >>> closed_lot(THREE, (2, 1))
 raises InvalidOperation
+>>> PLACES = (0, 1, 0, 0)
+>>> [part_count(THREE, (3, 1, 0, 0)), patterns(THREE, PLACES, 2), pattern_row(THREE, PLACES, 2), pattern_kinds(THREE, PLACES, 2), pattern_powers(THREE, PLACES)]
+[(1, 1), 4, (8, 4, 2, 2), (0, 2, 0, 2), ((1, 2), (2, 3), (3, 1))]
+>>> [share_patterns(THREE, PLACES, (2, 1)), share_patterns(THREE, PLACES, (1, 1, 1)), patterns(THREE, PLACES, 3), patterns(THREE, (0, 0, 0, 0), 0)]
+[1, 1, 10, 1]
+>>> [patterns(PAIRS, (0, 1, 1, 1, 0), 7) == patterns(PAIRS, (1, 0, 0, 0, 2), 7), roots_count(THREE, 2), roots_count(FIVE, 6), subgroup_counts(THREE), sylow_counts(FIVE)]
+[True, 4, 36, {1: 1, 2: 3, 3: 1, 6: 1}, {2: 5, 3: 10, 5: 6}]
+>>> share_patterns(THREE, PLACES, (2, 2))
+raises InvalidOperation
+>>> desk = Desk(THREE, (0, 1, 0, 0))
+>>> [desk.promise(("set",)), desk.promise(("mark", 0, 3, 9)), desk.do((("times", (0, 1, 0, 0)),)), desk.kinds, desk.marks, str(desk)]
+[True, True, 3, (1, 1, 0, 0), (9, 1, 0, 0), 'desk of kinds 1 1 0 0, 2 promises']
+>>> [desk.would((("many", -1),)), paper_against(THREE, (0, 0, -2, 0), ("set",)), does_hold(THREE, (1, -2, -1, 2), ("squares",)), desk.undo(2), len(desk)]
+[(('set',), ('mark', 0, 3, 9)), ('kind', 2, -2), False, 1, 1]
+>>> desk.do((("less", (0, 2, 0, 0)),))
+raises Refused(('broken', ('set',), ('kind', 1, -1)))
+>>> [is_paper_against(THREE, (1, 0, 0, 0), ("signs",), ("mark", 3, 0)), is_promise(THREE, ("mark", 4, 0, 1)), desk.do((("plus", (0, 0, 0, 1)), ("without", 1))), desk.kinds]
+[True, False, 2, (0, 0, 0, 1)]
+>>> [write_move((1, 2, 0, 4, 3)), write_move((0, 1)), read_move("(4 3)(2 0 1)", 6), write_group(SQUARE), write_group(Group(2, ()))]
+['(0 1 2)(3 4)', '()', (1, 2, 0, 4, 3, 5), '4: (0 1 2 3) (1 3)', '2:']
+>>> [read_group("3: (0 1) (0 1 2)") == THREE, read_group("3: (1 2) (0 1)") == THREE, write_row((6, 2, 0, -1)), read_row("0,-12"), write_kinds((2, 0, -1, 3)), write_kinds((-1, 0))]
+[True, True, '6,2,0,-1', (0, -12), '2[0] - [2] + 3[3]', '-[0]']
+>>> [read_kinds("[1] + 2[0] - 3[1]", 2), read_kinds("0", 3), write_kinds((0, 0)), list(table_lines(THREE))]
+[(2, -2), (0, 0, 0), '0', ['1: 6 3 2 1', '2: 0 1 0 1', '3: 0 0 2 1', '6: 0 0 0 1']]
+>>> read_move("(0 1)(2 1)", 4)
+raises InvalidMove
+>>> read_row("1,,2")
+raises ParseError(2)
+>>> read_kinds("2[0] +[1]", 2)
+raises ParseError(6)
 """
 
 
@@ -238,7 +271,7 @@ def names():
     """All names that the examples use."""
     found = {}
     for module in (errors, integers, tables, moves, groups, subgroups, steps, sets, marks, rows, sums, changes, powers,
-                   quotients, squares, signs, singles, moebius, factors):
+                   quotients, squares, signs, singles, moebius, factors, counts, promises, desks, texts):
         found.update(module.__dict__)
     return found
 

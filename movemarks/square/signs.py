@@ -161,23 +161,19 @@ def sign_count(group):
     return 1 << len(_basis(group.lattice))
 
 
-def _product_of_some(basis, many, number):
-    """The product of those rows of the basis that the bits of a number tell, the last row by the last bit."""
-    row = [1 for _ in range(many)]
-    for at, member in enumerate(basis[::-1]):
-        if (number >> at) & 1 == 1:
-            row = [one * other for one, other in zip(row, member)]
-    return tuple(row)
-
-
 def each_sign_row(group):
     """All sign rows, ascending."""
     need_group(group)
     basis = _basis(group.lattice)
-    many = len(group.lattice.families)
-    # Two products first differ at a lead, where that with the row of this lead has -1.
-    for number in range((1 << len(basis)) - 1, -1, -1):
-        yield _product_of_some(basis, many, number)
+    waiting = [(tuple([1 for _ in group.lattice.families]), 0)]
+    while len(waiting) > 0:
+        row, at = waiting.pop()
+        if at == len(basis):
+            yield row
+        else:
+            # Of two products the one with the row of a lead has -1 there, so it is put last, and taken first.
+            waiting.append((row, at + 1))
+            waiting.append((tuple([one * other for one, other in zip(row, basis[at])]), at + 1))
 
 
 def _part_row(group, kinds):

@@ -1,0 +1,1 @@
+"""Counts of patterns, roots and subgroups."""

@@ -1,0 +1,1 @@
+"""Promises about kinds, and desks that keep them."""

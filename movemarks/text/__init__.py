@@ -1,0 +1,1 @@
+"""Texts of moves, groups, rows and kinds."""
