@@ -146,6 +146,28 @@ class Language(unittest.TestCase):
                     called = isinstance(over, ast.Call) and over.func.id in ("len", "sorted")
                     self.assertTrue(called or isinstance(over, ast.Assign), (path, node.lineno))
 
+    def test_ranges_are_gone_over_on_the_spot(self):
+        for path, tree in self.trees.items():
+            above = {child: node for node in ast.walk(tree) for child in ast.iter_child_nodes(node)}
+            for node in ast.walk(tree):
+                if isinstance(node, ast.Call) and isinstance(node.func, ast.Name) and node.func.id in ("range", "zip", "enumerate", "reversed"):
+                    over = above[node]
+                    looped = isinstance(over, (ast.For, ast.comprehension)) and over.iter is node
+                    self.assertTrue(looped or isinstance(over, ast.Call) and over.func.id in ("list", "tuple", "enumerate"), (path, node.lineno))
+
+    def test_stored_sets(self):
+        for path, tree in self.trees.items():
+            above = {child: node for node in ast.walk(tree) for child in ast.iter_child_nodes(node)}
+            for function in ast.walk(tree):
+                if isinstance(function, ast.FunctionDef):
+                    kept = {node.targets[0].id for node in ast.walk(function) if isinstance(node, ast.Assign)
+                            and isinstance(node.value, ast.Call) and ast.unparse(node.value.func) == "set"}
+                    for node in ast.walk(function):
+                        if isinstance(node, ast.Name) and node.id in kept and isinstance(node.ctx, ast.Load):
+                            over = above[node]
+                            added = isinstance(over, ast.Attribute) and over.attr == "add" and isinstance(above[above[over]], ast.Expr)
+                            self.assertTrue(added or isinstance(over, ast.Compare), (path, node.lineno))
+
     def test_loops_leave_what_they_go_over(self):
         for place, node in self.each_node():
             if isinstance(node, ast.For) and isinstance(node.iter, ast.Name):
@@ -278,7 +300,8 @@ class Operators(unittest.TestCase):
     def test_what_is_reached(self):
         names = {function.name for _, function in self.reached}
         self.assertLessEqual({"__add__", "__mul__", "__eq__", "__len__", "__str__", "__contains__", "is_commutative", "kinds",
-                              "__init__", "_kinds_of", "_leads_of", "followed", "is_arrangement", "need_between"}, names)
+                              "__init__", "_kinds_of", "_leads_of", "followed", "is_arrangement", "need_between", "marks", "version",
+                              "row_of_kinds", "mark_table", "keeper_indices", "many_above", "_is_promise", "_spaced"}, names)
 
     def test_what_is_found(self):
         wrong = ("kinds = [0]\n kinds[0] += 1", "total = 0\n total += xs", "xs[0] = 1", "xs.append(1)", "ys = [1]\n ys.sort()",
